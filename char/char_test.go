@@ -8,6 +8,7 @@ import (
 	"unicode/utf8"
 
 	"stanhope/char"
+	"stanhope/short"
 )
 
 const (
@@ -16,20 +17,6 @@ const (
 	flows   = ",[]{}"
 	openers = flows + "-?:#&*!|>'\"%@`"
 )
-
-// lines calls f with every line of at most n of the parts.
-func lines(n int, parts string, f func(s string)) {
-	var grow func(s string, n int)
-	grow = func(s string, n int) {
-		f(s)
-		if n > 0 {
-			for i := range len(parts) {
-				grow(s+parts[i:i+1], n-1)
-			}
-		}
-	}
-	grow("", n)
-}
 
 // has says whether one of the bytes of a text is c.
 func has(s string, c byte) bool { return strings.IndexByte(s, c) >= 0 }
@@ -356,7 +343,7 @@ func slowPlain(s string, i int, flow bool) int {
 
 // P3.2, P3.3: every place of every short line.
 func TestShortLines(t *testing.T) {
-	lines(6, " a:#-,'", func(s string) {
+	for s := range short.Texts(6, strings.Split(" a:#-,'", "")...) {
 		for i := range len(s) + 1 {
 			for _, flow := range []bool{false, true} {
 				parts := i < len(s) && slowParts(s, i, flow)
@@ -373,7 +360,7 @@ func TestShortLines(t *testing.T) {
 				}
 			}
 		}
-	})
+	}
 }
 
 // whole is P3.3 of the plain text between two places of a line.

@@ -1,10 +1,12 @@
 package resolve_test
 
 import (
+	"slices"
 	"strings"
 	"testing"
 
 	"stanhope/resolve"
+	"stanhope/short"
 )
 
 // nines is a text of that many nines.
@@ -177,16 +179,7 @@ func TestRight(t *testing.T) {
 // P4.3: of every short text of the bytes that tell tags apart, and of some longer ones.
 func TestOfMayBe(t *testing.T) {
 	texts := []string{"null", "true", "false", "nulltrue", "é€", strings.Repeat("a", 1024), strings.Repeat("1", 1024), nines(18), "-" + nines(18), "-" + nines(19)}
-	var grow func(s string, n int)
-	grow = func(s string, n int) {
-		texts = append(texts, s)
-		if n > 0 {
-			for _, p := range []string{"0", "1", "9", "-", "~", " ", "a", "é", "\x00"} {
-				grow(s+p, n-1)
-			}
-		}
-	}
-	grow("", 4)
+	texts = slices.AppendSeq(texts, short.Texts(4, "0", "1", "9", "-", "~", " ", "a", "é", "\x00"))
 	for _, s := range texts {
 		tag, content := resolve.Of(s)
 		if !resolve.Right(tag, content) || !resolve.Core(tag) {

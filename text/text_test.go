@@ -7,25 +7,12 @@ import (
 	"unicode/utf8"
 
 	"stanhope/api"
+	"stanhope/short"
 	"stanhope/text"
 )
 
 // bad is an ErrByte at a place.
 func bad(at int) api.Fault { return api.Fault{Errno: api.ErrByte, At: at} }
-
-// texts calls f with every text of at most n of the parts.
-func texts(n int, parts []string, f func(s string)) {
-	var grow func(s string, n int)
-	grow = func(s string, n int) {
-		f(s)
-		if n > 0 {
-			for _, p := range parts {
-				grow(s+p, n-1)
-			}
-		}
-	}
-	grow("", n)
-}
 
 // P2.1: every character that UTF-8 has.
 func TestCheckCharacters(t *testing.T) {
@@ -180,7 +167,7 @@ func TestIsAndFrom(t *testing.T) {
 
 // P2.2, P2.4: of every short text, the lines laid behind one another are the text, and say where they stand.
 func TestLinesAreTheText(t *testing.T) {
-	texts(6, []string{"\n", " ", "a", "#", "\xff", "\r"}, func(s string) {
+	for s := range short.Texts(6, "\n", " ", "a", "#", "\xff", "\r") {
 		var rows []string
 		for _, l := range text.Lines(s) {
 			row := strings.Repeat(" ", l.Indent) + l.Text
@@ -198,7 +185,7 @@ func TestLinesAreTheText(t *testing.T) {
 		if want := strings.Count(s, "\n"); s != "" && !strings.HasSuffix(s, "\n") && len(rows) != want+1 || strings.HasSuffix(s, "\n") && len(rows) != want {
 			t.Fatalf("%q: %d lines", s, len(rows))
 		}
-	})
+	}
 }
 
 // P2.3
@@ -248,7 +235,7 @@ func TestPlace(t *testing.T) {
 
 // P2.3: every place of every short text, held against a slow count.
 func TestPlaceByCounting(t *testing.T) {
-	texts(5, []string{"\n", "a", "é", "\xe2", "\x82", "\xac"}, func(s string) {
+	for s := range short.Texts(5, "\n", "a", "é", "\xe2", "\x82", "\xac") {
 		for at := -1; at <= len(s)+1; at++ {
 			line, column := 0, 0
 			if at >= 0 && at <= len(s) {
@@ -265,7 +252,7 @@ func TestPlaceByCounting(t *testing.T) {
 				t.Fatalf("%q at %d: %d %d, not %d %d", s, at, l, c, line, column)
 			}
 		}
-	})
+	}
 }
 
 // The chapter's example 1.
