@@ -10,43 +10,16 @@ import (
 
 	"stanhope/api"
 	"stanhope/graph"
+	"stanhope/sketch"
 )
 
-// str is a scalar.
-func str(s string) graph.Node { return graph.Node{Kind: graph.Scalar, Tag: "str", Text: s} }
-
-// scalar is a scalar of a tag.
-func scalar(tag, s string) graph.Node { return graph.Node{Kind: graph.Scalar, Tag: tag, Text: s} }
-
-// seq is a sequence.
-func seq(kids ...int) graph.Node { return graph.Node{Kind: graph.Seq, Tag: "seq", Kids: kids} }
-
-// entries is a mapping, of keys with blanks between them, and where their edges lead.
-func entries(keys string, kids ...int) graph.Node {
-	return graph.Node{Kind: graph.Map, Tag: "map", Keys: strings.Fields(keys), Kids: kids}
-}
-
-// tagged is a node with a tag.
-func tagged(tag string, n graph.Node) graph.Node {
-	n.Tag = tag
-	return n
-}
-
-// of is a graph.
-func of(root int, nodes ...graph.Node) graph.Graph { return graph.Graph{Nodes: nodes, Root: root} }
+var (
+	str, scalar, seq, entries, tagged = sketch.Str, sketch.Scalar, sketch.Seq, sketch.Map, sketch.Tagged
+	of, chain, odd                    = sketch.Of, sketch.Chain, sketch.Odd()
+)
 
 // a is a text of that many bytes.
 func a(n int) string { return strings.Repeat("a", n) }
-
-// chain is a graph of that many sequences, each of which leads to the next one, and the last one to some.
-func chain(n int, last ...int) graph.Graph {
-	var g graph.Graph
-	for i := range n - 1 {
-		g.Nodes = append(g.Nodes, seq(i+1))
-	}
-	g.Nodes = append(g.Nodes, seq(last...))
-	return g
-}
 
 // upTo are the numbers from 0 on below n.
 func upTo(n int) []int {
@@ -58,8 +31,6 @@ func upTo(n int) []int {
 }
 
 func shape(at int) api.Fault { return api.Fault{Errno: api.ErrShape, At: at} }
-
-var odd = []int{math.MinInt, -1 << 32, -1, 1 << 32, math.MaxInt}
 
 func TestKinds(t *testing.T) {
 	if graph.Scalar != 1 || graph.Seq != 2 || graph.Map != 3 {
@@ -414,12 +385,7 @@ func TestTrim(t *testing.T) {
 // same holds two graphs against each other, as they stand.
 func same(t *testing.T, i int, got, want graph.Graph) {
 	t.Helper()
-	if got.Root != want.Root || !slices.EqualFunc(got.Nodes, want.Nodes, equal) {
+	if !sketch.Equal(got, want) {
 		t.Errorf("%d: %.300v, not %.300v", i, got, want)
 	}
-}
-
-// equal says whether two nodes are alike; nil and empty lists are one.
-func equal(a, b graph.Node) bool {
-	return a.Kind == b.Kind && a.Tag == b.Tag && a.Text == b.Text && slices.Equal(a.Keys, b.Keys) && slices.Equal(a.Kids, b.Kids)
 }

@@ -4,28 +4,8 @@ import (
 	"slices"
 	"testing"
 
-	"stanhope/graph"
+	"stanhope/sketch"
 )
-
-// roomy is a graph whose lists have room behind their ends.
-func roomy() graph.Graph {
-	m := entries("b a", 2, 1)
-	m.Keys = append(make([]string, 0, 8), m.Keys...)
-	m.Kids = append(make([]int, 0, 8), m.Kids...)
-	s := seq(0, 2)
-	s.Kids = append(make([]int, 0, 8), s.Kids...)
-	return of(0, append(make([]graph.Node, 0, 8), m, s, str("x"), str("y"))...)
-}
-
-// whole are the lists of a graph with the room behind their ends.
-func whole(g graph.Graph) graph.Graph {
-	l := slices.Clone(g.Nodes[:cap(g.Nodes)])
-	for i, n := range l {
-		l[i].Keys = slices.Clone(n.Keys[:cap(n.Keys)])
-		l[i].Kids = slices.Clone(n.Kids[:cap(n.Kids)])
-	}
-	return of(g.Root, l...)
-}
 
 // scribble writes into a list, and into the room behind its end.
 func scribble(l []int) {
@@ -37,8 +17,8 @@ func scribble(l []int) {
 
 // R3: what is handed in stays as it is, whatever is written into what is handed out.
 func TestHandedIn(t *testing.T) {
-	g := roomy()
-	was := whole(g)
+	g := sketch.Roomy()
+	was := sketch.Whole(g)
 	g.Check()
 	for n := range g.Nodes {
 		scribble(g.Edges(n))
@@ -52,7 +32,7 @@ func TestHandedIn(t *testing.T) {
 			n.Keys[i] = "written"
 		}
 	}
-	if now := whole(g); now.Root != was.Root || !slices.EqualFunc(now.Nodes, was.Nodes, equal) {
+	if now := sketch.Whole(g); !sketch.Equal(now, was) {
 		t.Errorf("%v, not %v", now, was)
 	}
 }
@@ -64,7 +44,7 @@ func TestHandedOut(t *testing.T) {
 	g.Nodes[2].Kids = all[:2]
 	g.Nodes[1].Kids = all[:4]
 	x := g.Trim()
-	want := whole(x).Nodes
+	want := sketch.Whole(x).Nodes
 	for i, n := range x.Nodes {
 		scribble(n.Kids)
 		for j := range n.Keys {
@@ -80,12 +60,12 @@ func TestHandedOut(t *testing.T) {
 
 // R5: what is told of a graph is the same each time.
 func TestAgain(t *testing.T) {
-	g := roomy()
+	g := sketch.Roomy()
 	for range 20 {
 		if l := g.Reach(0); !slices.Equal(l, []int{0, 1, 2}) {
 			t.Fatal(l)
 		}
-		if !slices.EqualFunc(g.Trim().Nodes, of(0, entries("a b", 1, 2), seq(0, 2), str("x")).Nodes, equal) {
+		if !sketch.Equal(g.Trim(), of(0, entries("a b", 1, 2), seq(0, 2), str("x"))) {
 			t.Fatal(g.Trim())
 		}
 	}

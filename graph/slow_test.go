@@ -10,6 +10,7 @@ import (
 	"stanhope/api"
 	"stanhope/graph"
 	"stanhope/resolve"
+	"stanhope/sketch"
 )
 
 // slow tells of a graph that may be what the chapter says, by other means.
@@ -143,7 +144,7 @@ func (s slow) holdTrim(t *testing.T) {
 			t.Fatalf("%v: trimmed %v: node %d", s.Graph, x, i)
 		}
 	}
-	if again := x.Trim(); again.Root != 0 || !slices.EqualFunc(again.Nodes, x.Nodes, equal) {
+	if again := x.Trim(); !sketch.Equal(again, x) {
 		t.Fatalf("%v: trimmed %v, then %v", s.Graph, x, again)
 	}
 }
@@ -196,36 +197,11 @@ func TestSmall(t *testing.T) {
 	}
 }
 
-// some is a graph of n nodes, as it falls.
-func some(r *rand.Rand, n int) graph.Graph {
-	g := graph.Graph{Root: r.Intn(n)}
-	edges := 1 + r.Intn(6)
-	for range n {
-		var kids []int
-		for range r.Intn(edges) {
-			kids = append(kids, r.Intn(n))
-		}
-		switch r.Intn(4) {
-		case 0:
-			g.Nodes = append(g.Nodes, scalar("int", "7"))
-		case 1:
-			g.Nodes = append(g.Nodes, seq(kids...))
-		default:
-			n := tagged("!m", entries("", kids...))
-			for _, k := range r.Perm(len(kids)) {
-				n.Keys = append(n.Keys, []string{"", "-", "B", "a", "é", "\U00010000"}[k])
-			}
-			g.Nodes = append(g.Nodes, n)
-		}
-	}
-	return g
-}
-
 // P9.1 to P9.4: of greater graphs.
 func TestSome(t *testing.T) {
-	r := rand.New(rand.NewSource(9))
+	pick := sketch.Pick(rand.New(rand.NewSource(9)).Intn)
 	for range 3000 {
-		slowly(some(r, 1+r.Intn(20))).hold(t)
+		slowly(pick.Graph(1 + pick(20))).hold(t)
 	}
 }
 

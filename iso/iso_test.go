@@ -1,82 +1,20 @@
 package iso_test
 
 import (
-	"math"
 	"slices"
 	"strconv"
-	"strings"
 	"testing"
 
 	"stanhope/graph"
 	"stanhope/iso"
 	"stanhope/short"
+	"stanhope/sketch"
 )
 
-// str is a scalar.
-func str(s string) graph.Node { return graph.Node{Kind: graph.Scalar, Tag: "str", Text: s} }
-
-// scalar is a scalar of a tag.
-func scalar(tag, s string) graph.Node { return graph.Node{Kind: graph.Scalar, Tag: tag, Text: s} }
-
-// seq is a sequence.
-func seq(kids ...int) graph.Node { return graph.Node{Kind: graph.Seq, Tag: "seq", Kids: kids} }
-
-// entries is a mapping, of keys with blanks between them, and where their edges lead.
-func entries(keys string, kids ...int) graph.Node {
-	return graph.Node{Kind: graph.Map, Tag: "map", Keys: strings.Fields(keys), Kids: kids}
-}
-
-// keyed is a mapping of a key, whatever it is.
-func keyed(key string, kid int) graph.Node {
-	return graph.Node{Kind: graph.Map, Tag: "map", Keys: []string{key}, Kids: []int{kid}}
-}
-
-// tagged is a node with a tag.
-func tagged(tag string, n graph.Node) graph.Node {
-	n.Tag = tag
-	return n
-}
-
-// of is a graph.
-func of(root int, nodes ...graph.Node) graph.Graph { return graph.Graph{Nodes: nodes, Root: root} }
-
-// chain is a graph of that many sequences, each of which leads to the next one, and the last one to some.
-func chain(n int, last ...int) graph.Graph {
-	var g graph.Graph
-	for i := range n - 1 {
-		g.Nodes = append(g.Nodes, seq(i+1))
-	}
-	g.Nodes = append(g.Nodes, seq(last...))
-	return g
-}
-
-// loop is a chain of that many sequences, the last of which leads to the first.
-func loop(n int) graph.Graph { return chain(n, 0) }
-
-var odd = []int{math.MinInt, -1 << 32, -1, 1 << 32, math.MaxInt}
-
-// mayNot are graphs that may not be.
-func mayNot() []graph.Graph {
-	return []graph.Graph{
-		{},
-		of(0),
-		of(1, str("x")),
-		of(-1, str("x")),
-		of(math.MaxInt, str("x")),
-		of(0, graph.Node{}),
-		of(0, str("x"), graph.Node{}),
-		of(0, seq(1)),
-		of(0, seq(-1)),
-		of(0, scalar("int", "x")),
-		of(0, str("x\xff")),
-		of(0, tagged("map", seq())),
-		of(0, entries("a")),
-		of(0, entries("a a", 0, 0)),
-		of(0, str("x"), entries("a", 2)),
-		chain(4097),
-		of(0, make([]graph.Node, 5000)...),
-	}
-}
+var (
+	str, scalar, seq, entries, keyed, tagged = sketch.Str, sketch.Scalar, sketch.Seq, sketch.Map, sketch.Keyed, sketch.Tagged
+	of, chain, loop, odd                     = sketch.Of, sketch.Chain, sketch.Loop, sketch.Odd()
+)
 
 // holds asks whether a match has these pairs, and no others.
 func holds(t *testing.T, name string, m *iso.Match, pairs ...[2]int) {
@@ -114,7 +52,7 @@ func TestExample(t *testing.T) {
 func TestNew(t *testing.T) {
 	g := of(0, seq(0, 1), str("x"))
 	holds(t, "a graph and itself", iso.New(g, g))
-	for i, bad := range mayNot() {
+	for i, bad := range sketch.MayNot() {
 		name := strconv.Itoa(i)
 		holds(t, name, iso.New(bad, g))
 		holds(t, name, iso.New(g, bad))
@@ -125,7 +63,7 @@ func TestNew(t *testing.T) {
 // P10.1: of graphs that may not be.
 func TestJoinMayNot(t *testing.T) {
 	g := of(0, str("x"), seq())
-	for i, bad := range mayNot() {
+	for i, bad := range sketch.MayNot() {
 		for _, m := range []*iso.Match{iso.New(bad, g), iso.New(g, bad), iso.New(bad, bad)} {
 			for _, n := range append(odd, 0, 1, 2) {
 				if m.Join(n, n) || m.Join(n, 0) || m.Join(0, n) {
@@ -157,49 +95,10 @@ func TestJoinNoNode(t *testing.T) {
 	holds(t, "none", m, [2]int{2, 1})
 }
 
-// looks are nodes of a graph of five nodes, no two of which look alike.
-func looks() []graph.Node {
-	return []graph.Node{
-		str(""),
-		str("x"),
-		str("X"),
-		str("x "),
-		str("true"),
-		str("1"),
-		str("null"),
-		scalar("null", ""),
-		scalar("bool", "true"),
-		scalar("bool", "false"),
-		scalar("int", "1"),
-		scalar("int", "-1"),
-		scalar("!a", ""),
-		scalar("!a", "x"),
-		scalar("!b", "x"),
-		seq(),
-		seq(2),
-		seq(2, 2),
-		tagged("!a", seq()),
-		tagged("!b", seq()),
-		tagged("!a", seq(2)),
-		entries(""),
-		entries("a", 2),
-		entries("b", 2),
-		entries("a b", 2, 2),
-		entries("a c", 2, 2),
-		entries("ab", 2),
-		entries("a b c", 2, 2, 2),
-		keyed("", 2),
-		keyed("a b", 2),
-		tagged("!a", entries("")),
-		tagged("!b", entries("")),
-		tagged("!a", entries("a", 2)),
-	}
-}
-
 // P10.1, P10.2, P10.3: which nodes look alike.
 func TestLooks(t *testing.T) {
-	for i, n := range looks() {
-		for j, o := range looks() {
+	for i, n := range sketch.Looks() {
+		for j, o := range sketch.Looks() {
 			a, b := of(0, n, n, str("z")), of(1, str("y"), o, str("z"))
 			m := iso.New(a, b)
 			if m.Join(0, 1) != (i == j) {
@@ -466,7 +365,7 @@ func TestCodes(t *testing.T) {
 // P10.2, P10.3: of graphs that may not be.
 func TestMayNot(t *testing.T) {
 	good := of(0, str("x"))
-	for i, bad := range mayNot() {
+	for i, bad := range sketch.MayNot() {
 		for _, c := range [][2]graph.Graph{{bad, good}, {good, bad}, {bad, bad}} {
 			if iso.Same(c[0], c[1]) {
 				t.Errorf("%d: the same", i)

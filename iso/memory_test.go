@@ -6,50 +6,13 @@ import (
 
 	"stanhope/graph"
 	"stanhope/iso"
+	"stanhope/sketch"
 )
-
-// roomy is a graph whose lists have room behind their ends.
-func roomy() graph.Graph {
-	m := entries("b a", 2, 1)
-	m.Keys = append(make([]string, 0, 8), m.Keys...)
-	m.Kids = append(make([]int, 0, 8), m.Kids...)
-	s := seq(0, 2)
-	s.Kids = append(make([]int, 0, 8), s.Kids...)
-	return of(0, append(make([]graph.Node, 0, 8), m, s, str("x"), str("y"))...)
-}
-
-// whole are the lists of a graph with the room behind their ends.
-func whole(g graph.Graph) graph.Graph {
-	l := slices.Clone(g.Nodes[:cap(g.Nodes)])
-	for i, n := range l {
-		l[i].Keys = slices.Clone(n.Keys[:cap(n.Keys)])
-		l[i].Kids = slices.Clone(n.Kids[:cap(n.Kids)])
-	}
-	return of(g.Root, l...)
-}
-
-// equal says whether two nodes are alike, as they stand; nil and empty lists are one.
-func equal(a, b graph.Node) bool {
-	return a.Kind == b.Kind && a.Tag == b.Tag && a.Text == b.Text && slices.Equal(a.Keys, b.Keys) && slices.Equal(a.Kids, b.Kids)
-}
-
-// scribble writes into all lists of a graph.
-func scribble(g graph.Graph) {
-	for i, n := range g.Nodes {
-		for j := range n.Keys {
-			n.Keys[j] = "written"
-		}
-		for j := range n.Kids {
-			n.Kids[j] = 77
-		}
-		g.Nodes[i] = graph.Node{}
-	}
-}
 
 // R3: what is handed in stays as it is.
 func TestHandedIn(t *testing.T) {
-	a, b := roomy(), roomy()
-	was := whole(a)
+	a, b := sketch.Roomy(), sketch.Roomy()
+	was := sketch.Whole(a)
 	m := iso.New(a, b)
 	for x := range a.Nodes {
 		for y := range b.Nodes {
@@ -61,7 +24,7 @@ func TestHandedIn(t *testing.T) {
 	iso.Code(a)
 	iso.Code(b)
 	for _, g := range []graph.Graph{a, b} {
-		if now := whole(g); now.Root != was.Root || !slices.EqualFunc(now.Nodes, was.Nodes, equal) {
+		if now := sketch.Whole(g); !sketch.Equal(now, was) {
 			t.Errorf("%v, not %v", now, was)
 		}
 	}
@@ -69,13 +32,13 @@ func TestHandedIn(t *testing.T) {
 
 // R3: what was handed in isn't kept: a match goes on as it was, whatever is written there.
 func TestNotKept(t *testing.T) {
-	a, b := roomy(), roomy()
+	a, b := sketch.Roomy(), sketch.Roomy()
 	m := iso.New(a, b)
-	scribble(a)
+	sketch.ScribbleAll(a)
 	if !m.Join(2, 2) {
 		t.Error("a scalar")
 	}
-	scribble(b)
+	sketch.ScribbleAll(b)
 	if m.Join(0, 1) || m.Join(3, 2) || !m.Join(1, 1) || m.Len() != 3 {
 		t.Error("joined", m.Len())
 	}
@@ -84,7 +47,7 @@ func TestNotKept(t *testing.T) {
 
 // R3: nobody keeps what is handed out.
 func TestHandedOut(t *testing.T) {
-	a, b := roomy(), roomy()
+	a, b := sketch.Roomy(), sketch.Roomy()
 	want := [][2]int{{0, 0}, {1, 1}, {2, 2}}
 	for range 2 {
 		l, ok := iso.Pairs(a, b)

@@ -7,20 +7,8 @@ import (
 
 	"stanhope/graph"
 	"stanhope/iso"
+	"stanhope/sketch"
 )
-
-// looksAlike says of two nodes what the chapter says of them.
-func looksAlike(n, o graph.Node) bool {
-	if n.Kind != o.Kind || n.Tag != o.Tag || n.Text != o.Text || len(n.Kids) != len(o.Kids) {
-		return false
-	}
-	for _, k := range n.Keys {
-		if !slices.Contains(o.Keys, k) {
-			return false
-		}
-	}
-	return true
-}
 
 // match is of each node of the first graph the one that it is paired with, or -1.
 type match []int
@@ -52,7 +40,7 @@ func (m match) right(a, b graph.Graph) bool {
 		if y < 0 {
 			continue
 		}
-		if !looksAlike(a.Nodes[x], b.Nodes[y]) {
+		if !sketch.LookAlike(a.Nodes[x], b.Nodes[y]) {
 			return false
 		}
 		to := b.Edges(y)
@@ -115,13 +103,13 @@ func (m match) is(t *testing.T, got *iso.Match, a, b graph.Graph) {
 }
 
 // P10.1: joins in any order, of two graphs, held against all matches that there are.
-func holdJoins(t *testing.T, r *rand.Rand, a, b graph.Graph, joins int) {
+func holdJoins(t *testing.T, pick sketch.Pick, a, b graph.Graph, joins int) {
 	t.Helper()
 	l := all(a, b)
 	got := iso.New(a, b)
 	now := match(slices.Repeat([]int{-1}, len(a.Nodes)))
 	for range joins {
-		x, y := r.Intn(len(a.Nodes)), r.Intn(len(b.Nodes))
+		x, y := pick(len(a.Nodes)), pick(len(b.Nodes))
 		asked := slices.Clone(now)
 		asked[x] = y
 		next, ok := now, false
@@ -159,33 +147,9 @@ func holdSame(t *testing.T, a, b graph.Graph) {
 	}
 }
 
-// small are all graphs of two nodes, or one, of which each is some that has up to two edges.
-func small() []graph.Graph {
-	var l []graph.Graph
-	for n := 1; n <= 2; n++ {
-		nodes := []graph.Node{str("x"), seq(), tagged("!m", entries(""))}
-		for i := range n {
-			nodes = append(nodes, seq(i), entries("a", i))
-			for j := range n {
-				nodes = append(nodes, seq(i, j), entries("b a", i, j))
-			}
-		}
-		for _, first := range nodes {
-			if n == 1 {
-				l = append(l, of(0, first))
-				continue
-			}
-			for _, second := range nodes {
-				l = append(l, of(0, first, second), of(1, first, second))
-			}
-		}
-	}
-	return l
-}
-
 // P10.2, P10.3: of all pairs of small graphs.
 func TestSmall(t *testing.T) {
-	l := small()
+	l := sketch.Small()
 	for _, a := range l {
 		for _, b := range l {
 			holdSame(t, a, b)
@@ -193,104 +157,18 @@ func TestSmall(t *testing.T) {
 	}
 }
 
-// some is a graph of n nodes, as it falls.
-func some(r *rand.Rand, n int) graph.Graph {
-	g := graph.Graph{Root: r.Intn(n)}
-	edges := 1 + r.Intn(6)
-	kinds := 1 + r.Intn(5)
-	for range n {
-		kids := make([]int, r.Intn(edges))
-		for i := range kids {
-			kids[i] = r.Intn(n)
-		}
-		switch r.Intn(kinds) {
-		case 0:
-			g.Nodes = append(g.Nodes, seq(kids...))
-		case 1:
-			g.Nodes = append(g.Nodes, entries("", kids...))
-			for _, k := range r.Perm(len(kids)) {
-				g.Nodes[len(g.Nodes)-1].Keys = append(g.Nodes[len(g.Nodes)-1].Keys, []string{"", "-", "B", "a", "é", "\U00010000"}[k])
-			}
-		case 2:
-			g.Nodes = append(g.Nodes, tagged("!s", seq(kids...)))
-		default:
-			g.Nodes = append(g.Nodes, str([]string{"x", "y"}[r.Intn(2)]))
-		}
-	}
-	return g
-}
-
-// moved is the same graph by other numbers, its entries in another order, with some nodes more;
-// and the new number of each node.
-func moved(r *rand.Rand, g graph.Graph, more int) (graph.Graph, []int) {
-	n := len(g.Nodes) + more
-	to := r.Perm(n)
-	nodes := make([]graph.Node, n)
-	for i := range nodes {
-		if i >= len(g.Nodes) {
-			nodes[to[i]] = seq(r.Intn(n), r.Intn(n))
-			continue
-		}
-		was := g.Nodes[i]
-		o := graph.Node{Kind: was.Kind, Tag: was.Tag, Text: was.Text}
-		places := r.Perm(len(was.Kids))
-		if was.Kind == graph.Seq {
-			slices.Sort(places)
-		}
-		for _, p := range places {
-			o.Kids = append(o.Kids, to[was.Kids[p]])
-			if was.Kind == graph.Map {
-				o.Keys = append(o.Keys, was.Keys[p])
-			}
-		}
-		nodes[to[i]] = o
-	}
-	return of(to[g.Root], nodes...), to[:len(g.Nodes)]
-}
-
 // P10.1: joins of graphs of a few nodes.
 func TestSomeJoins(t *testing.T) {
-	r := rand.New(rand.NewSource(10))
+	pick := sketch.Pick(rand.New(rand.NewSource(10)).Intn)
 	for range 4000 {
-		a := some(r, 1+r.Intn(5))
-		b := some(r, 1+r.Intn(5))
-		if r.Intn(2) == 0 {
-			b, _ = moved(r, a, r.Intn(2))
+		a := pick.Graph(1 + pick(5))
+		b := pick.Graph(1 + pick(5))
+		if pick(2) == 0 {
+			b, _ = pick.Moved(a, pick(2))
 		}
-		holdJoins(t, r, a, b, 8)
+		holdJoins(t, pick, a, b, 8)
 		holdSame(t, a, b)
 	}
-}
-
-// changed is a graph with one thing changed of a node; it may still be the same.
-func changed(r *rand.Rand, g graph.Graph) graph.Graph {
-	g = of(g.Root, slices.Clone(g.Nodes)...)
-	i := r.Intn(len(g.Nodes))
-	n := g.Nodes[i]
-	n.Keys, n.Kids = slices.Clone(n.Keys), slices.Clone(n.Kids)
-	switch c := r.Intn(5); {
-	case c == 0:
-		g.Root = i
-	case n.Kind == graph.Scalar && c < 3:
-		n.Text += "z"
-	case n.Kind == graph.Scalar || c == 1:
-		n.Tag = "!z"
-	case len(n.Kids) == 0:
-		n = str("z")
-	case c == 2:
-		n.Kids[r.Intn(len(n.Kids))] = r.Intn(len(g.Nodes))
-	case c == 3:
-		// A node of its own, that looks as the one that was shared.
-		k := r.Intn(len(n.Kids))
-		g.Nodes = append(g.Nodes, g.Nodes[n.Kids[k]])
-		n.Kids[k] = len(g.Nodes) - 1
-	case n.Kind == graph.Map:
-		n.Keys[r.Intn(len(n.Keys))] = "z"
-	default:
-		n.Kids = n.Kids[1:]
-	}
-	g.Nodes[i] = n
-	return g
 }
 
 // together are the pairs that are met along the same edges of both graphs, in order,
@@ -306,7 +184,7 @@ func together(a, b graph.Graph) ([][2]int, bool) {
 			}
 			ok = ok && p[0] != x && p[1] != y
 		}
-		ok = ok && looksAlike(a.Nodes[x], b.Nodes[y])
+		ok = ok && sketch.LookAlike(a.Nodes[x], b.Nodes[y])
 		if !ok {
 			return
 		}
@@ -325,11 +203,11 @@ func together(a, b graph.Graph) ([][2]int, bool) {
 
 // P10.2, P10.3, P10.4: of greater graphs, moved, and with one thing changed.
 func TestSome(t *testing.T) {
-	r := rand.New(rand.NewSource(11))
+	pick := sketch.Pick(rand.New(rand.NewSource(11)).Intn)
 	same := 0
 	for range 4000 {
-		a := some(r, 1+r.Intn(20))
-		b, to := moved(r, a, r.Intn(3))
+		a := pick.Graph(1 + pick(20))
+		b, to := pick.Moved(a, pick(3))
 		var want [][2]int
 		for _, x := range a.Reach(a.Root) {
 			want = append(want, [2]int{x, to[x]})
@@ -337,7 +215,7 @@ func TestSome(t *testing.T) {
 		if l, ok := iso.Pairs(a, b); !ok || !slices.Equal(l, want) || !iso.Same(a, b) || iso.Code(a) != iso.Code(b) {
 			t.Fatalf("%v, %v: %v, %v, not %v", a, b, l, ok, want)
 		}
-		c := changed(r, b)
+		c := pick.Changed(b)
 		want, alike := together(a, c)
 		if l, ok := iso.Pairs(a, c); ok != alike || !slices.Equal(l, want) || iso.Same(a, c) != alike || (iso.Code(a) == iso.Code(c)) != alike {
 			t.Fatalf("%v, %v: %v, %v, not %v", a, c, l, ok, want)
@@ -375,7 +253,7 @@ func laws(t *testing.T, a, b, c graph.Graph) {
 
 // P10.4: through a third one, of all small graphs: those that are the same have the same ones.
 func TestThrough(t *testing.T) {
-	l := small()
+	l := sketch.Small()
 	row := func(g graph.Graph) string {
 		s := make([]byte, len(l))
 		for i, h := range l {
