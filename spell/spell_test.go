@@ -78,3 +78,33 @@ func TestWrong(t *testing.T) {
 		}
 	}
 }
+
+// What is noisy is the same, but for what plays no part.
+func TestNoisy(t *testing.T) {
+	for _, s := range []string{"str", "<str \"a\">", "{map a?:[seq str] *:any}", "[seq by k {map k:str}]", "(str|$a)", "dag"} {
+		x := spell.Type(s)
+		n := spell.Noisy(x)
+		if !typ.Same(x, n) || typ.Show(n) != typ.Show(x) || reflect.DeepEqual(x, n) {
+			t.Errorf("%s: %+v", s, n)
+		}
+	}
+	if n := spell.Noisy(at(0)); n.At == 0 || n.Name == "" || len(n.Words) == 0 || len(n.Fields) == 0 || len(n.Items) == 0 {
+		t.Errorf("%+v", n)
+	}
+}
+
+// What is roomy has room behind the ends of its lists, which is to be seen of the whole.
+func TestRoom(t *testing.T) {
+	x := spell.Roomy(spell.Type("{map a:[seq str]}"))
+	if typ.Show(x) != "{map a:[seq str]}" || cap(x.Fields) <= len(x.Fields) {
+		t.Errorf("%+v", x)
+	}
+	was := spell.Whole(x)
+	if !reflect.DeepEqual(was, spell.Whole(x)) {
+		t.Errorf("%+v", was)
+	}
+	_ = append(x.Fields[0].Type.Items, at(7))
+	if reflect.DeepEqual(was, spell.Whole(x)) {
+		t.Errorf("%+v: what is written behind the end isn't seen", was)
+	}
+}

@@ -10,64 +10,30 @@ import (
 	"stanhope/typ"
 )
 
-// room is a list with room behind its end, in which something stands.
-func room[T any](l []T, behind T) []T {
-	return append(slices.Clone(l), behind, behind)[:len(l)]
-}
-
-// roomy is a type all lists of which have room behind their ends.
-func roomy(x typ.Type) typ.Type {
-	behind := typ.Type{Kind: typ.Any, At: 99}
-	x.Words = room(x.Words, "behind")
-	x.Fields = room(x.Fields, typ.Field{Key: "behind", Type: behind})
-	for i := range x.Fields {
-		x.Fields[i].Type = roomy(x.Fields[i].Type)
-	}
-	x.Items = room(x.Items, behind)
-	for i := range x.Items {
-		x.Items[i] = roomy(x.Items[i])
-	}
-	return x
-}
-
-// copied is a type anew, with the room behind the ends of its lists.
-func copied(x typ.Type) typ.Type {
-	x.Words = slices.Clone(x.Words[:cap(x.Words)])
-	x.Fields = slices.Clone(x.Fields[:cap(x.Fields)])
-	for i := range x.Fields {
-		x.Fields[i].Type = copied(x.Fields[i].Type)
-	}
-	x.Items = slices.Clone(x.Items[:cap(x.Items)])
-	for i := range x.Items {
-		x.Items[i] = copied(x.Items[i])
-	}
-	return x
-}
-
 // R3: what is handed in stays as it is, with the room behind its end; R5: what is told is the same each time.
 func TestHandedIn(t *testing.T) {
 	d := spell.Defs("c={map k:str l?:$a} a=(str|$b) b=[seq $a]")
-	d.Names = room(d.Names, "behind")
+	d.Names = spell.Room(d.Names, "behind")
 	for i := range d.Types {
-		d.Types[i] = roomy(d.Types[i])
+		d.Types[i] = spell.Roomy(d.Types[i])
 	}
-	d.Types = room(d.Types, roomy(spell.Type("(foo|bar)")))
+	d.Types = spell.Room(d.Types, spell.Roomy(spell.Type("(foo|bar)")))
 	was := typ.Defs{Names: slices.Clone(d.Names[:cap(d.Names)])}
 	for _, x := range d.Types[:cap(d.Types)] {
-		was.Types = append(was.Types, copied(x))
+		was.Types = append(was.Types, spell.Whole(x))
 	}
 	for _, s := range []string{"$a", "[seq by k $c]", "({map z:str b:$none a:int}|$b|$a)", "{map a:($a|str|bool) b:<str \"b\" \"a\">}", "($b|$a|int)"} {
-		x := roomy(spell.Type(s))
-		before := copied(x)
+		x := spell.Roomy(spell.Type(s))
+		before := spell.Whole(x)
 		for range 20 {
 			tell(d, x)
 		}
-		if now := copied(x); !reflect.DeepEqual(now, before) {
+		if now := spell.Whole(x); !reflect.DeepEqual(now, before) {
 			t.Errorf("%s: %+v, not %+v", s, now, before)
 		}
 	}
 	for i, x := range d.Types[:cap(d.Types)] {
-		if !reflect.DeepEqual(copied(x), was.Types[i]) {
+		if !reflect.DeepEqual(spell.Whole(x), was.Types[i]) {
 			t.Errorf("%+v, not %+v", x, was.Types[i])
 		}
 	}

@@ -294,7 +294,7 @@ func hold(t *testing.T, d typ.Defs, x typ.Type) api.Fault {
 	if got != want {
 		t.Fatalf("%s: %v at %d, not %v at %d", of, got, got.At, want, want.At)
 	}
-	if f := typ.Check(d, noisy(x)); f.Errno != got.Errno || got.Bad() && f.At != noisy(typ.Type{At: got.At}).At {
+	if f := typ.Check(d, spell.Noisy(x)); f.Errno != got.Errno || got.Bad() && f.At != spell.Noisy(typ.Type{At: got.At}).At {
 		t.Fatalf("%s: %v at %d, with what plays no part %v at %d", of, got, got.At, f, f.At)
 	}
 	r, ok := typ.Resolve(d, x)
@@ -382,7 +382,7 @@ func TestPairs(t *testing.T) {
 	}
 	for i, x := range l {
 		for j, y := range l {
-			if got := typ.Same(x, noisy(y)); got != (texts[i] == texts[j]) || got != reflect.DeepEqual(plain(x), plain(y)) {
+			if got := typ.Same(x, spell.Noisy(y)); got != (texts[i] == texts[j]) || got != reflect.DeepEqual(plain(x), plain(y)) {
 				t.Fatalf("%s and %s: same %v", texts[i], texts[j], got)
 			}
 		}
@@ -506,7 +506,7 @@ func TestMade(t *testing.T) {
 			m.at = 1000
 			x := m.typ(m.Intn(4))
 			met[hold(t, d, x).Errno]++
-			if y := noisy(x); typ.Same(x, y) != typ.Same(y, x) || !typ.Check(d, x).Bad() && !typ.Same(x, y) {
+			if y := spell.Noisy(x); typ.Same(x, y) != typ.Same(y, x) || !typ.Check(d, x).Bad() && !typ.Same(x, y) {
 				t.Fatalf("%s: not the same as %+v", show(x), y)
 			}
 		}

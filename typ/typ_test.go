@@ -86,8 +86,8 @@ func TestShow(t *testing.T) {
 		if got := typ.Show(c.of); got != c.want {
 			t.Errorf("%+v: %q, not %q", c.of, got, c.want)
 		}
-		if got := typ.Show(noisy(c.of)); got != c.want {
-			t.Errorf("%+v: %q, not %q", noisy(c.of), got, c.want)
+		if got := typ.Show(spell.Noisy(c.of)); got != c.want {
+			t.Errorf("%+v: %q, not %q", spell.Noisy(c.of), got, c.want)
 		}
 	}
 	for _, k := range []typ.Kind{0, -1, 10, math.MinInt, math.MaxInt} {
@@ -95,43 +95,6 @@ func TestShow(t *testing.T) {
 			t.Errorf("%d: %q", k, got)
 		}
 	}
-}
-
-// noisy is a type with other places in which everything stands that plays no part.
-func noisy(x typ.Type) typ.Type {
-	x.At = 77 - 2*x.At
-	junk := []typ.Type{{Kind: typ.Name, Name: "junk"}, {Kind: typ.Union}}
-	part := func(plays bool, items []typ.Type) []typ.Type {
-		if !plays {
-			return junk
-		}
-		var l []typ.Type
-		for _, i := range items {
-			l = append(l, noisy(i))
-		}
-		return l
-	}
-	k := x.Kind
-	if k == typ.Union || k == typ.Name || k == typ.Dag || k == typ.Any {
-		x.Tag = "junk"
-	}
-	if k != typ.Keyed && k != typ.Name {
-		x.Name = "junk\xff"
-	}
-	if k != typ.Enum {
-		x.Words = []string{"z", "junk", "\xff"}
-	}
-	fields := x.Fields
-	x.Fields = nil
-	if k == typ.Record {
-		for _, f := range fields {
-			x.Fields = append(x.Fields, typ.Field{Key: f.Key, Optional: f.Optional, Type: noisy(f.Type)})
-		}
-	} else {
-		x.Fields = []typ.Field{{Key: "k", Type: typ.Type{Kind: typ.Scalar, Tag: "str"}}, {Key: "a", Type: junk[0]}}
-	}
-	x.Items = part(k == typ.Record || k == typ.List || k == typ.Keyed || k == typ.Union, x.Items)
-	return x
 }
 
 // alike are types that may be (with the name n) of which no two are alike.
@@ -158,7 +121,7 @@ func TestSame(t *testing.T) {
 		}
 		for j, u := range alike {
 			y := spell.Type(u)
-			for _, z := range []typ.Type{y, noisy(y)} {
+			for _, z := range []typ.Type{y, spell.Noisy(y)} {
 				if typ.Same(x, z) != (i == j) || typ.Same(z, x) != (i == j) {
 					t.Errorf("%s and %s: same %v", s, u, i != j)
 				}
@@ -332,7 +295,7 @@ func TestHeads(t *testing.T) {
 		{"(bool|(null|$h))", "none"},
 	}
 	for _, c := range cases {
-		for _, x := range []typ.Type{spell.Type(c.of), noisy(spell.Type(c.of))} {
+		for _, x := range []typ.Type{spell.Type(c.of), spell.Noisy(spell.Type(c.of))} {
 			got, ok := typ.Heads(d, x)
 			want := strings.Fields(strings.TrimSuffix(c.want, "none"))
 			if ok != (c.want != "none") || !slices.Equal(got, want) {
