@@ -10,9 +10,8 @@ import (
 
 // Parse is the value of a graph of a type.
 func Parse(d typ.Defs, t typ.Type, g graph.Graph) (Value, api.Fault) {
-	if f := g.Check(); f.Bad() {
-		// It is the graph itself that is wrong, whatever the type is, and none of its places.
-		return Value{}, api.Fault{Errno: f.Errno}
+	if f := wrong(g); f.Bad() {
+		return Value{}, f
 	}
 	// What is trimmed stands in the order of going, with its entries.
 	p := parser{defs: d, nodes: g.Trim().Nodes, numbers: g.Reach(g.Root), own: make(map[int]struct{})}
@@ -21,6 +20,16 @@ func Parse(d typ.Defs, t typ.Type, g graph.Graph) (Value, api.Fault) {
 		return Value{}, f
 	}
 	return v, api.Fault{}
+}
+
+// wrong is what layer 9 tells of a graph: at the node that isn't right; at 0, where the
+// graph itself is wrong, since layer 9's place there is a count and no node's number.
+func wrong(g graph.Graph) api.Fault {
+	f := g.Check()
+	if f.Errno != api.ErrShape || f.At == len(g.Nodes) {
+		f.At = 0
+	}
+	return f
 }
 
 // spot is what is wrong at a node.

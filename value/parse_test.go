@@ -1,6 +1,7 @@
 package value_test
 
 import (
+	"slices"
 	"strings"
 	"testing"
 
@@ -300,20 +301,139 @@ func TestNumbers(t *testing.T) {
 	}
 }
 
-// P16.1: of a graph that may not be it is layer 9's error, at 0, whatever the type is.
-func TestMayNotBe(t *testing.T) {
-	x, bad := sketch.Str("x"), sketch.Seq(9)
-	l := append(sketch.MayNot(), sketch.Of(0, bad), sketch.Of(0, x, x, bad), sketch.Of(2, x, x), sketch.Of(4096, sketch.Chain(4096).Nodes...))
-	for i, g := range l {
-		want := api.Fault{Errno: g.Check().Errno}
-		if n := len(g.Nodes) > 4096; !want.Bad() || n != (want.Errno == api.ErrNodes) || n == (want.Errno == api.ErrShape) {
-			t.Errorf("%d: %v", i, want)
+// holdMayNot holds what Parse tells of a graph that may not be, whatever the type is.
+func holdMayNot(t *testing.T, g graph.Graph, want api.Fault) {
+	t.Helper()
+	for _, s := range []string{"any", "dag", "str", "[seq any]", "[seq str]", "{map *:any}", "$many"} {
+		v, f := value.Parse(spell.Defs(defined), spell.Type(s), g)
+		if f != want || !carve.Equal(v, value.Value{}) {
+			t.Errorf("%d nodes, the root %d, by %s: %+v, %v at %d, not %v at %d", len(g.Nodes), g.Root, s, v, f, f.At, want, want.At)
 		}
-		for _, s := range []string{"any", "dag", "str", "[seq any]", "$many"} {
-			v, f := value.Parse(spell.Defs(defined), spell.Type(s), g)
-			if f != want || !carve.Equal(v, value.Value{}) {
-				t.Errorf("%d by %s: %+v, %v at %d", i, s, v, f, f.At)
-			}
+	}
+}
+
+// replaced is a graph with a node in the place of another one.
+func replaced(g graph.Graph, at int, n graph.Node) graph.Graph {
+	g = sketch.Of(g.Root, slices.Clone(g.Nodes)...)
+	g.Nodes[at] = n
+	return g
+}
+
+// notRight are nodes that aren't right in a graph of at most 4096 nodes.
+func notRight() []graph.Node {
+	return []graph.Node{
+		{},
+		{Kind: 4, Tag: "str"},
+		sketch.Scalar("int", "x"),
+		sketch.Scalar("", "x"),
+		sketch.Scalar("map", ""),
+		sketch.Str("x\xff"),
+		sketch.Str(strings.Repeat("x", 1025)),
+		{Kind: graph.Scalar, Tag: "str", Kids: []int{0}},
+		sketch.Seq(-1),
+		sketch.Seq(0, 4096),
+		sketch.Tagged("map", sketch.Seq()),
+		{Kind: graph.Seq, Tag: "seq", Text: "x"},
+		{Kind: graph.Seq, Tag: "seq", Keys: []string{"a"}, Kids: []int{0}},
+		sketch.Map("a"),
+		sketch.Map("a a", 0, 0),
+		sketch.Map("a", 4096),
+		sketch.Keyed("x\xff", 0),
+		sketch.Keyed(strings.Repeat("x", 1025), 0),
+	}
+}
+
+// P16.1: of a node that isn't right it is ErrShape at its number, whatever the type is.
+func TestNotRight(t *testing.T) {
+	x, bad := sketch.Str("x"), sketch.Scalar("int", "x")
+	shape := func(at int) api.Fault { return api.Fault{Errno: api.ErrShape, At: at} }
+	for i, c := range []struct {
+		g  graph.Graph
+		at int
+	}{
+		{sketch.Of(0, bad), 0},
+		{sketch.Of(0, sketch.Seq(1), bad), 1},
+		{sketch.Of(1, bad, sketch.Seq(0)), 0},
+		{sketch.Of(0, sketch.Map("b a", 2, 1), x, bad), 2},
+		// Whether or not it is reached.
+		{sketch.Of(0, x, x, bad), 2},
+		{sketch.Of(3, x, bad, x, x), 1},
+		{sketch.Of(2, x, x, x, sketch.Seq(4)), 3},
+		// The first by its number, not by the order of going.
+		{sketch.Of(0, sketch.Seq(2, 1), bad, bad), 1},
+		{sketch.Of(2, x, bad, sketch.Seq(3, 1), bad), 1},
+		{sketch.Of(0, sketch.Map("b a", 1, 2), bad, bad), 1},
+		{sketch.Of(0, x, sketch.Seq(9), bad), 1},
+		// Ahead of a Root that is none, and of all that is wrong by the type.
+		{sketch.Of(7, x, bad), 1},
+		{sketch.Of(-1, x, x, bad), 2},
+		{sketch.Of(3, x, x, bad), 2},
+		{sketch.Of(0, sketch.Seq(0, 1, 1), x, bad), 2},
+	} {
+		if f := c.g.Check(); f != shape(c.at) {
+			t.Errorf("%d: %v at %d", i, f, f.At)
+		}
+		holdMayNot(t, c.g, shape(c.at))
+	}
+	for _, n := range notRight() {
+		for _, at := range []int{0, 1, 2, 9, 4094, 4095} {
+			holdMayNot(t, replaced(sketch.Chain(max(10, at+1)), at, n), shape(at))
+		}
+	}
+}
+
+// P16.1: of a graph that is wrong itself it is layer 9's error at 0, whatever the type is.
+func TestMayNotBe(t *testing.T) {
+	shape, nodes := api.Fault{Errno: api.ErrShape}, api.Fault{Errno: api.ErrNodes}
+	for _, n := range []int{0, 1, 2, 3, 4095, 4096} {
+		g := sketch.Chain(n + 1)
+		g.Nodes = g.Nodes[:n]
+		if n > 0 {
+			g.Nodes[n-1] = sketch.Str("x")
+		}
+		for _, root := range append(sketch.Odd(), n, n+1, 4096, 4097) {
+			holdMayNot(t, sketch.Of(root, g.Nodes...), shape)
+		}
+	}
+	for _, n := range []int{4097, 4098, 5000} {
+		g := sketch.Chain(n)
+		for _, root := range append(sketch.Odd(), 0, 1, 4095, 4096, n, n+1) {
+			holdMayNot(t, sketch.Of(root, g.Nodes...), nodes)
+		}
+		// Ahead of each node that isn't right.
+		for _, at := range []int{0, 1, 4095, 4096} {
+			holdMayNot(t, replaced(g, at, sketch.Seq(n)), nodes)
+		}
+		holdMayNot(t, sketch.Of(0, make([]graph.Node, n)...), nodes)
+	}
+	for i, g := range sketch.MayNot() {
+		want := g.Check()
+		if !want.Bad() {
+			t.Errorf("%d: may be", i)
+		}
+		if want.Errno == api.ErrNodes || want.At == len(g.Nodes) {
+			want.At = 0
+		}
+		holdMayNot(t, g, want)
+	}
+}
+
+// P16.1: so it is of graphs as they fall, of a type but for some of their nodes.
+func TestNotRightMade(t *testing.T) {
+	m := made(41)
+	bad := notRight()
+	for range 3000 {
+		x := m.right()
+		g := m.graph(x)
+		first := len(g.Nodes)
+		for range 1 + m.Pick(3) {
+			at := m.Pick(len(g.Nodes))
+			g = replaced(g, at, bad[m.Pick(len(bad))])
+			first = min(first, at)
+		}
+		v, f := value.Parse(m.d, x, g)
+		if f != (api.Fault{Errno: api.ErrShape, At: first}) || !carve.Equal(v, value.Value{}) {
+			t.Fatalf("%v by %s: %+v, %v at %d, not at %d", g, typ.Show(x), v, f, f.At, first)
 		}
 	}
 }
