@@ -7,6 +7,8 @@ import (
 	"stanhope/graph"
 	"stanhope/lens"
 	"stanhope/load"
+	"stanhope/spell"
+	"stanhope/typ"
 	"stanhope/value"
 )
 
@@ -26,6 +28,28 @@ func Defs(s string) lens.Defs {
 	for i, name := range r.Nodes[r.Root].Keys {
 		d.Names = append(d.Names, name)
 		d.Lenses = append(d.Lenses, lens.Def{Lens: r.lens(r.Nodes[r.Root].Kids[i])})
+	}
+	return d
+}
+
+// Program are definitions, in the order in which they stand, of a text's only document:
+// a mapping of types and lenses, or of one of them; types is a mapping of names and the
+// texts that layer 15 shows of types, lenses one of names and mappings of source, view,
+// such texts, too, and lens. Each type has its place in the whole text.
+func Program(s string) lens.Defs {
+	r := read(s)
+	var d lens.Defs
+	if n := r.perhaps(r.Root, "types"); n >= 0 {
+		d.Types.Names = r.Nodes[n].Keys
+		for _, k := range r.Nodes[n].Kids {
+			d.Types.Types = append(d.Types.Types, r.typ(k))
+		}
+	}
+	if n := r.perhaps(r.Root, "lenses"); n >= 0 {
+		d.Names = r.Nodes[n].Keys
+		for _, k := range r.Nodes[n].Kids {
+			d.Lenses = append(d.Lenses, lens.Def{Source: r.typ(r.behind(k, "source")), View: r.typ(r.behind(k, "view")), Lens: r.lens(r.behind(k, "lens"))})
+		}
 	}
 	return d
 }
@@ -104,6 +128,15 @@ func (r reader) filled(l lens.Lens, word string, n int) lens.Lens {
 		l.Kind, l.Name, l.Values = lens.Fill, r.label(r.behind(n, "key")), []value.Value{r.literal(r.behind(n, "value"))}
 	}
 	return l
+}
+
+// typ reads a type, which stands as a text between marks or without them.
+func (r reader) typ(n int) typ.Type {
+	at := r.At[n]
+	if c := r.text[at]; c == '\'' || c == '"' {
+		at++
+	}
+	return spell.Moved(spell.Type(r.label(n)), at)
 }
 
 // perhaps is the node behind a mapping's key; -1, if there is none.

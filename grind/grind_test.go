@@ -2,11 +2,13 @@ package grind_test
 
 import (
 	"reflect"
+	"strings"
 	"testing"
 
 	"stanhope/carve"
 	"stanhope/grind"
 	"stanhope/lens"
+	"stanhope/typ"
 	"stanhope/value"
 )
 
@@ -57,6 +59,26 @@ func TestDefs(t *testing.T) {
 	}
 	want := lens.Defs{Names: l("b", "a"), Lenses: []lens.Def{{Lens: id(4)}, {Lens: lens.Lens{Kind: lens.Use, At: 11, Name: "b"}}}}
 	if got := grind.Defs("{b: id, a: {use: b}}"); !reflect.DeepEqual(got, want) {
+		t.Errorf("%+v, not %+v", got, want)
+	}
+}
+
+func TestProgram(t *testing.T) {
+	for _, s := range []string{"{}", "{types: {}}", "{types: {}, lenses: {}}"} {
+		if got := grind.Program(s); !reflect.DeepEqual(got, lens.Defs{}) {
+			t.Errorf("%s: %+v", s, got)
+		}
+	}
+	const text = "{lenses: {b: {source: $t, view: '[seq str]', lens: copy}, a: {lens: {use: b}, view: any, source: \"{map a?:str *:$t}\"}}, types: {t: '(int|$t)'}}"
+	place := func(s string) int { return strings.Index(text, s) }
+	str := func(at int) typ.Type { return typ.Type{Kind: typ.Scalar, At: at, Tag: "str"} }
+	b := lens.Def{Lens: lens.Lens{Kind: lens.Copy, At: place("copy")}, Source: typ.Type{Kind: typ.Name, At: place("$t"), Name: "t"}}
+	b.View = typ.Type{Kind: typ.List, At: place("[seq"), Tag: "seq", Items: []typ.Type{str(place("str]"))}}
+	a := lens.Def{Lens: lens.Lens{Kind: lens.Use, At: place("{use"), Name: "b"}, View: typ.Type{Kind: typ.Any, At: place("any")}}
+	a.Source = typ.Type{Kind: typ.Record, At: place("{map"), Tag: "map", Fields: []typ.Field{{Key: "a", Optional: true, Type: str(place("str *"))}}, Items: []typ.Type{{Kind: typ.Name, At: place("$t}"), Name: "t"}}}
+	u := typ.Type{Kind: typ.Union, At: place("(int"), Items: []typ.Type{{Kind: typ.Scalar, At: place("int"), Tag: "int"}, {Kind: typ.Name, At: place("$t)"), Name: "t"}}}
+	want := lens.Defs{Types: typ.Defs{Names: l("t"), Types: []typ.Type{u}}, Names: l("b", "a"), Lenses: []lens.Def{b, a}}
+	if got := grind.Program(text); !reflect.DeepEqual(got, want) {
 		t.Errorf("%+v, not %+v", got, want)
 	}
 }

@@ -76,3 +76,17 @@ func Noisy(x typ.Type) typ.Type {
 	x.Items = part(k == typ.Record || k == typ.List || k == typ.Keyed || k == typ.Union, x.Items)
 	return x
 }
+
+// Moved is a type anew, all places of which are greater by a number.
+func Moved(x typ.Type, by int) typ.Type {
+	x.At += by
+	x.Fields = slices.Clone(x.Fields)
+	for i := range x.Fields {
+		x.Fields[i].Type = Moved(x.Fields[i].Type, by)
+	}
+	x.Items = slices.Clone(x.Items)
+	for i := range x.Items {
+		x.Items[i] = Moved(x.Items[i], by)
+	}
+	return x
+}

@@ -2,6 +2,7 @@ package spell_test
 
 import (
 	"reflect"
+	"strings"
 	"testing"
 
 	"stanhope/spell"
@@ -106,5 +107,23 @@ func TestRoom(t *testing.T) {
 	_ = append(x.Fields[0].Type.Items, at(7))
 	if reflect.DeepEqual(was, spell.Whole(x)) {
 		t.Errorf("%+v: what is written behind the end isn't seen", was)
+	}
+}
+
+// What is moved is the same at other places, and anew.
+func TestMoved(t *testing.T) {
+	const text = "{map a?:[seq str] b:(int|$a) *:[seq by k {map k:<str 'a'>}]}"
+	x := spell.Roomy(spell.Type(text))
+	was := spell.Whole(x)
+	y := spell.Moved(x, 100)
+	if typ.Show(y) != typ.Show(x) || y.At != 100 || y.Fields[0].Type.At != 108 || y.Fields[1].Type.Items[1].At != x.Fields[1].Type.Items[1].At+100 || y.Items[0].Items[0].Fields[0].Type.At != 100+strings.Index(text, "<str") {
+		t.Errorf("%+v", y)
+	}
+	if !reflect.DeepEqual(was, spell.Whole(x)) {
+		t.Errorf("%+v, not %+v", spell.Whole(x), was)
+	}
+	plain := spell.Type(text)
+	if z := spell.Moved(spell.Moved(plain, 100), -100); !reflect.DeepEqual(z, plain) {
+		t.Errorf("%+v, not %+v", z, plain)
 	}
 }
