@@ -51,6 +51,8 @@ func TestMade(t *testing.T) {
 		{carve.Seq(carve.Str("x"), carve.Leaf(3)), "[x, !leaf 3]"},
 		{carve.Map("a b", carve.Str("x"), carve.Str("y")), "{a: x, b: y}"},
 		{carve.Keyed("a b", carve.Str("x")), "{a b: x}"},
+		{carve.Mapping(), "{}"},
+		{carve.Mapping("", "a b"), "{'': x, a b: x}"},
 		{carve.Tagged("!t", carve.Seq()), "!t []"},
 		{carve.Nested(3, carve.Str("x"), func(v value.Value) value.Value { return carve.Seq(v) }), "[[[x]]]"},
 		{carve.Moved(carve.Value("[!leaf 3, {a: !leaf 4, b: 5}]"), func(n int) int { return n * 10 }), "[!leaf 30, {a: !leaf 40, b: 5}]"},
@@ -141,5 +143,13 @@ func TestRoom(t *testing.T) {
 	_ = append(r.Kids[0].Kids, str("written"))
 	if carve.Equal(was, carve.Whole(r)) {
 		t.Errorf("%+v: what is written behind the end isn't seen", was)
+	}
+}
+
+func TestOdd(t *testing.T) {
+	for i, v := range carve.Odd() {
+		if v.May() {
+			t.Errorf("%d may be: %+v", i, v)
+		}
 	}
 }
