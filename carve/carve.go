@@ -2,6 +2,7 @@
 package carve
 
 import (
+	"maps"
 	"slices"
 	"strconv"
 	"strings"
@@ -69,6 +70,24 @@ func Map(keys string, kids ...value.Value) value.Value {
 // Keyed is a mapping of a key, whatever it is.
 func Keyed(key string, kid value.Value) value.Value {
 	return value.Value{Kind: value.Map, Tag: "map", Keys: []string{key}, Kids: []value.Value{kid}}
+}
+
+// Entries are what stands behind the keys of a mapping.
+func Entries(v value.Value) map[string]value.Value {
+	m := make(map[string]value.Value)
+	for i, k := range v.Keys {
+		m[k] = v.Kids[i]
+	}
+	return m
+}
+
+// Laid is the mapping of a tag of what stands behind keys.
+func Laid(tag string, m map[string]value.Value) value.Value {
+	v := value.Value{Kind: value.Map, Tag: tag, Keys: slices.Sorted(maps.Keys(m))}
+	for _, k := range v.Keys {
+		v.Kids = append(v.Kids, m[k])
+	}
+	return v
 }
 
 // Tagged is a value with a tag.

@@ -2,6 +2,7 @@ package carve_test
 
 import (
 	"reflect"
+	"slices"
 	"testing"
 
 	"stanhope/carve"
@@ -61,6 +62,18 @@ func TestMade(t *testing.T) {
 		if !carve.Equal(c.got, carve.Value(c.text)) {
 			t.Errorf("%+v is no %s", c.got, c.text)
 		}
+	}
+}
+
+// What stands behind keys is laid in order, and taken apart again.
+func TestLaid(t *testing.T) {
+	m := map[string]value.Value{"b": str("x"), "": carve.Seq(str("y")), "a": str("x")}
+	v := carve.Laid("!m", m)
+	if !carve.Equal(v, carve.Value("!m {'': [y], a: x, b: x}")) || !reflect.DeepEqual(carve.Entries(v), m) {
+		t.Errorf("%+v, %+v", v, carve.Entries(v))
+	}
+	if v := carve.Laid("map", nil); !carve.Equal(v, carve.Map("")) || len(carve.Entries(v)) != 0 {
+		t.Errorf("%+v", v)
 	}
 }
 
@@ -150,6 +163,28 @@ func TestOdd(t *testing.T) {
 	for i, v := range carve.Odd() {
 		if v.May() {
 			t.Errorf("%d may be: %+v", i, v)
+		}
+	}
+}
+
+// What is changed is another value, and leaves the value as it was.
+func TestChanged(t *testing.T) {
+	const text = "{a: [x, !leaf 2], b: {c: ~}}"
+	v := carve.Roomy(carve.Value(text))
+	was := carve.Whole(v)
+	l := carve.Changed(v)
+	others := 0
+	for _, c := range l {
+		if !carve.Equal(c, v) {
+			others++
+		}
+	}
+	if !carve.Equal(carve.Whole(v), was) || others < 30 {
+		t.Errorf("%d of %d are others: %+v", others, len(l), v)
+	}
+	for _, s := range []string{"{a: [x], b: {c: ~}}", "{a: [!leaf 2, !leaf 2], b: {c: ~}}", "{a: [x, !leaf 2], b: {c: !a ''}}", "{b: {c: ~}}", "{a: !a [x, !leaf 2], b: {c: ~}}", "[]"} {
+		if !slices.ContainsFunc(l, func(c value.Value) bool { return carve.Equal(c, carve.Value(s)) }) {
+			t.Errorf("%s isn't among them", s)
 		}
 	}
 }

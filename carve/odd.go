@@ -2,6 +2,7 @@ package carve
 
 import (
 	"math"
+	"slices"
 	"strings"
 
 	"stanhope/value"
@@ -36,4 +37,37 @@ func Odd() []value.Value {
 		Mapping("\xff"), Mapping("a", "b\xc3"), Mapping(long), Mapping("A", long),
 		uneven, lacks, Map("a"),
 	}
+}
+
+// Changed are all values that come of one, if one thing of it is changed.
+func Changed(v value.Value) []value.Value {
+	l := []value.Value{Leaf(0), Str("x"), Scalar("int", "1"), Seq(), Map("")}
+	with := func(change func(*value.Value)) {
+		x := v
+		x.Keys, x.Kids = slices.Clone(v.Keys), slices.Clone(v.Kids)
+		change(&x)
+		l = append(l, x)
+	}
+	if v.Kind != value.Leaf {
+		with(func(x *value.Value) { x.Tag = "!a" })
+	}
+	if v.Kind == value.Scalar {
+		with(func(x *value.Value) { x.Text = "y" })
+	}
+	for i, k := range v.Kids {
+		with(func(x *value.Value) { x.Kids[i] = v.Kids[len(v.Kids)-1-i] })
+		with(func(x *value.Value) {
+			x.Kids = slices.Delete(x.Kids, i, i+1)
+			if v.Kind == value.Map {
+				x.Keys = slices.Delete(x.Keys, i, i+1)
+			}
+		})
+		if v.Kind == value.Map {
+			with(func(x *value.Value) { x.Keys[i] += "\x00" })
+		}
+		for _, o := range Changed(k) {
+			with(func(x *value.Value) { x.Kids[i] = o })
+		}
+	}
+	return l
 }

@@ -28,19 +28,6 @@ lenses:
   wide: {source: $t, view: '(<str "x">|[seq $t])', lens: {union: [{const: {view: x, default: y}}, {items: {use: tree}}]}}
 `)
 
-// noisy are definitions with something in all that plays no part.
-func noisy(d lens.Defs) lens.Defs {
-	d = grind.NoisyDefs(d)
-	d.Types.Types = slices.Clone(d.Types.Types)
-	for i, t := range d.Types.Types {
-		d.Types.Types[i] = spell.Noisy(t)
-	}
-	for i, x := range d.Lenses {
-		d.Lenses[i].Source, d.Lenses[i].View = spell.Noisy(x.Source), spell.Noisy(x.View)
-	}
-	return d
-}
-
 // tell is all that there is to tell of a lens by a type of sources: the text of the type of its views; or the fault, and the way to it.
 func tell(t *testing.T, d lens.Defs, l lens.Lens, s typ.Type) (string, api.Fault, []fault.Step) {
 	t.Helper()
@@ -134,7 +121,7 @@ func (l leads) hold(t *testing.T, d lens.Defs) {
 		if got, f, _ := tell(t, d, x, s); got != c.view {
 			t.Errorf("%s by %s: %s, %s, not %s", c.lens, c.source, got, told(c.lens, f), c.view)
 		}
-		if got, f, _ := tell(t, noisy(d), grind.Noisy(x), spell.Noisy(s)); got != c.view {
+		if got, f, _ := tell(t, grind.NoisyProgram(d), grind.Noisy(x), spell.Noisy(s)); got != c.view {
 			t.Errorf("%s by %s, with what plays no part: %s, %s, not %s", c.lens, c.source, got, told(c.lens, f), c.view)
 		}
 	}
@@ -168,7 +155,7 @@ func (l wrongs) hold(t *testing.T, d lens.Defs) {
 		if got, f, steps := tell(t, d, x, s); f != want || !slices.Equal(steps, way) {
 			t.Errorf("%s by %s: %s%s on the way %v, not %s on the way %v", text, c.source, got, told(text, f), steps, told(text, want), way)
 		}
-		if got, f, steps := tell(t, noisy(d), grind.Noisy(x), spell.Noisy(s)); f != want || !slices.Equal(steps, way) {
+		if got, f, steps := tell(t, grind.NoisyProgram(d), grind.Noisy(x), spell.Noisy(s)); f != want || !slices.Equal(steps, way) {
 			t.Errorf("%s by %s, with what plays no part: %s%s on the way %v, not %s on the way %v", text, c.source, got, told(text, f), steps, told(text, want), way)
 		}
 	}

@@ -444,7 +444,7 @@ func TestKeyedViews(t *testing.T) {
 				// By this source the Use itself is wrong.
 				want = api.Fault{Errno: api.ErrLens, At: 4}
 			}
-			for _, d := range []lens.Defs{d, noisy(d)} {
+			for _, d := range []lens.Defs{d, grind.NoisyProgram(d)} {
 				got, f, _ := tell(t, d, x, spell.Type(source))
 				if f != want || !f.Bad() && got != c.want {
 					t.Errorf("%s to %s: %s%v at %d, not %s%v at %d", source, c.view, got, f, f.At, c.want, want, want.At)

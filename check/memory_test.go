@@ -20,34 +20,6 @@ import (
 	"stanhope/value"
 )
 
-// roomy are definitions all lists of which have room behind their ends.
-func roomy(d lens.Defs) lens.Defs {
-	d.Types = typ.Defs{Names: spell.Room(d.Types.Names, "behind"), Types: spell.Room(d.Types.Types, spell.Type("any"))}
-	for i, x := range d.Types.Types {
-		d.Types.Types[i] = spell.Roomy(x)
-	}
-	d.Names = spell.Room(d.Names, "behind")
-	d.Lenses = spell.Room(d.Lenses, lens.Def{Lens: grind.Lens("{use: none}")})
-	for i, x := range d.Lenses {
-		d.Lenses[i] = lens.Def{Source: spell.Roomy(x.Source), View: spell.Roomy(x.View), Lens: grind.Roomy(x.Lens)}
-	}
-	return d
-}
-
-// whole are definitions anew, with the room behind the ends of their lists.
-func whole(d lens.Defs) lens.Defs {
-	d.Types = typ.Defs{Names: slices.Clone(d.Types.Names[:cap(d.Types.Names)]), Types: slices.Clone(d.Types.Types[:cap(d.Types.Types)])}
-	for i, x := range d.Types.Types {
-		d.Types.Types[i] = spell.Whole(x)
-	}
-	d.Names = slices.Clone(d.Names[:cap(d.Names)])
-	d.Lenses = slices.Clone(d.Lenses[:cap(d.Lenses)])
-	for i, x := range d.Lenses {
-		d.Lenses[i] = lens.Def{Source: spell.Whole(x.Source), View: spell.Whole(x.View), Lens: grind.Whole(x.Lens)}
-	}
-	return d
-}
-
 // all are lenses of all kinds, each with a type of sources by which it is right, and one by which it isn't.
 var all = []struct{ lens, right, wrong string }{
 	{"id", "{map b:$rec}", ""},
@@ -73,8 +45,8 @@ var all = []struct{ lens, right, wrong string }{
 
 // R3: what is handed in stays as it is, with the room behind its end; R5: what is told is the same each time.
 func TestHandedIn(t *testing.T) {
-	d := roomy(defs)
-	was := whole(d)
+	d := grind.RoomyProgram(defs)
+	was := grind.WholeProgram(d)
 	for _, c := range all {
 		l := grind.Roomy(grind.Lens(c.lens))
 		before := grind.Whole(l)
@@ -115,7 +87,7 @@ func TestHandedIn(t *testing.T) {
 			t.Fatalf("%v, %v: %+v", f, g, x)
 		}
 	}
-	if now := whole(d); !reflect.DeepEqual(now, was) {
+	if now := grind.WholeProgram(d); !reflect.DeepEqual(now, was) {
 		t.Errorf("%+v, not %+v", now, was)
 	}
 }
@@ -198,43 +170,14 @@ func TestEmpty(t *testing.T) {
 	}
 }
 
-// nested are a lens and a type within others, so many times.
-func nested(n int, l lens.Lens, s typ.Type, around func(lens.Lens, typ.Type) (lens.Lens, typ.Type)) (lens.Lens, typ.Type) {
-	for range n {
-		l, s = around(l, s)
-	}
-	return l, s
-}
-
-// arounds are of each kind that has Kids what stands around a lens, and around the type of its sources.
-var arounds = map[string]func(l lens.Lens, s typ.Type) (lens.Lens, typ.Type){
-	"compose": func(l lens.Lens, s typ.Type) (lens.Lens, typ.Type) {
-		return lens.Lens{Kind: lens.Compose, At: 1, Kids: []lens.Lens{{Kind: lens.Id}, l}}, s
-	},
-	"map": func(l lens.Lens, s typ.Type) (lens.Lens, typ.Type) {
-		return lens.Lens{Kind: lens.Map, At: 1, Kids: []lens.Lens{l}}, typ.Type{Kind: typ.Record, Tag: "map", Items: []typ.Type{s}}
-	},
-	"items": func(l lens.Lens, s typ.Type) (lens.Lens, typ.Type) {
-		return lens.Lens{Kind: lens.Items, At: 1, Kids: []lens.Lens{l}}, typ.Type{Kind: typ.List, Tag: "seq", Items: []typ.Type{s}}
-	},
-	"on": func(l lens.Lens, s typ.Type) (lens.Lens, typ.Type) {
-		return lens.Lens{Kind: lens.On, At: 1, Keys: []string{"b"}, Kids: []lens.Lens{l}}, typ.Type{Kind: typ.Record, Tag: "map", Fields: []typ.Field{{Key: "a", Type: spell.Type("int")}, {Key: "b", Type: s}}}
-	},
-	"keyed": func(l lens.Lens, s typ.Type) (lens.Lens, typ.Type) {
-		r := spell.Type("{map k:str v:int}")
-		r.Fields[1].Type = s
-		return lens.Lens{Kind: lens.Keyed, At: 1, Kids: []lens.Lens{{Kind: lens.On, Keys: []string{"v"}, Kids: []lens.Lens{l}}}}, typ.Type{Kind: typ.Keyed, Tag: "seq", Name: "k", Items: []typ.Type{r}}
-	},
-}
-
 // R1: lenses of any depth are gone through.
 func TestDeep(t *testing.T) {
 	const n = 1 << 14
-	for word, around := range arounds {
+	for _, word := range grind.Arounds() {
 		for _, last := range []string{"id", "copy", "{use: none}"} {
 			leaf := grind.Lens(last)
 			leaf.At = 5
-			l, s := nested(n, leaf, spell.Type("str"), around)
+			l, s, _ := grind.Nest(word, n, leaf, spell.Type("str"), carve.Str("x"))
 			p, f := check.Check(lens.Defs{}, l, s)
 			_, err := check.Try(lens.Defs{}, l, s)
 			switch last {

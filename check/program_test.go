@@ -29,7 +29,7 @@ func (l faults) hold(t *testing.T) {
 		if got := told(s, program(t, d)); got != want {
 			t.Errorf("%s, not %s", got, want)
 		}
-		if f := program(t, noisy(d)); f.Word() != program(t, d).Word() {
+		if f := program(t, grind.NoisyProgram(d)); f.Word() != program(t, d).Word() {
 			t.Errorf("%s, with what plays no part: %v", s, f)
 		}
 	}
@@ -94,7 +94,7 @@ func TestProgram(t *testing.T) {
 	if f := program(t, defs); f.Bad() {
 		t.Error(f, f.At)
 	}
-	if f := program(t, noisy(defs)); f.Bad() {
+	if f := program(t, grind.NoisyProgram(defs)); f.Bad() {
 		t.Error(f, f.At)
 	}
 }

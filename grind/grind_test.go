@@ -6,8 +6,10 @@ import (
 	"testing"
 
 	"stanhope/carve"
+	"stanhope/check"
 	"stanhope/grind"
 	"stanhope/lens"
+	"stanhope/spell"
 	"stanhope/typ"
 	"stanhope/value"
 )
@@ -134,5 +136,86 @@ func TestRoom(t *testing.T) {
 	_ = append(r.Kids[4].Drops, "written")
 	if reflect.DeepEqual(was, grind.Whole(r)) {
 		t.Errorf("%+v: what is written behind the end isn't seen", was)
+	}
+}
+
+// program is a text of definitions that may be.
+const program = "{types: {s: str}, lenses: {f: {source: $s, view: '{map k:$s}', lens: {plunge: k}}, g: {source: '[seq $s]', view: '[seq {map k:$s}]', lens: {items: {use: f}}}}}"
+
+func TestEnv(t *testing.T) {
+	e := grind.Env(program)
+	want, f := check.Ready(grind.Program(program))
+	if f.Bad() || !reflect.DeepEqual(e, want) || len(e.Plans) != 2 {
+		t.Errorf("%v: %+v, not %+v", f, e, want)
+	}
+	p := grind.Plan(e.Defs, "{compose: [{items: {use: f}}, id]}", "[seq $s]")
+	q, f := check.Check(e.Defs, p.Lens, p.Source)
+	if f.Bad() || !reflect.DeepEqual(p, q) || typ.Show(p.Source) != "[seq $s]" || typ.Show(p.View) != "[seq {map k:$s}]" {
+		t.Errorf("%v: %+v", f, p)
+	}
+	for i, wrong := range []func(){
+		func() { grind.Env("{types: {s: '(str)'}}") },
+		func() { grind.Plan(e.Defs, "copy", "$s") },
+		func() { grind.Plan(e.Defs, "id", "$none") },
+	} {
+		if !panics(wrong) {
+			t.Error(i)
+		}
+	}
+}
+
+// panics says whether a call does.
+func panics(call func()) (yes bool) {
+	defer func() { yes = recover() != nil }()
+	call()
+	return false
+}
+
+// What is noisy, or roomy, says the same; what is written behind an end is to be seen of the whole.
+func TestNoisyProgram(t *testing.T) {
+	d := grind.Program(program)
+	e := grind.Env(program)
+	for i, x := range []lens.Defs{grind.NoisyProgram(d), grind.RoomyProgram(d)} {
+		other, f := check.Ready(x)
+		if f.Bad() || i == 0 && reflect.DeepEqual(x, d) {
+			t.Errorf("%d: %v at %d: %+v", i, f, f.At, x)
+		}
+		for k, p := range other.Plans {
+			if typ.Show(p.View) != typ.Show(e.Plans[k].View) {
+				t.Errorf("%d: %s", i, typ.Show(p.View))
+			}
+		}
+	}
+	r := grind.RoomyProgram(d)
+	was := grind.WholeProgram(r)
+	_ = append(r.Lenses[1].Source.Items, typ.Type{})
+	if reflect.DeepEqual(was, grind.WholeProgram(r)) || !reflect.DeepEqual(grind.WholeProgram(d), d) {
+		t.Errorf("%+v", was)
+	}
+	roomy, _ := check.Ready(r)
+	old := grind.WholeEnv(roomy)
+	if !reflect.DeepEqual(old, grind.WholeEnv(roomy)) {
+		t.Errorf("%+v", old)
+	}
+	_ = append(roomy.Plans[0].Source.Words, "written")
+	if reflect.DeepEqual(old, grind.WholeEnv(roomy)) {
+		t.Errorf("%+v", old)
+	}
+	p := roomy.Plans[1]
+	before := grind.WholePlan(p)
+	p.Kids[0].Lens.Name = "written"
+	if reflect.DeepEqual(before, grind.WholePlan(p)) {
+		t.Errorf("%+v", before)
+	}
+}
+
+// What is nested is right, with a source that is one.
+func TestNest(t *testing.T) {
+	for _, word := range grind.Arounds() {
+		l, s, v := grind.Nest(word, 3, grind.Lens("id"), spell.Type("str"), carve.Str("x"))
+		p := grind.Made(lens.Defs{}, l, s)
+		if !value.Of(typ.Defs{}, p.Source, v) || l.Size() < 4 || check.Word(l.Kind) != word || check.Word(l.Kids[0].Kind) != word && word != "compose" && word != "keyed" {
+			t.Errorf("%s: %+v by %s, %+v", word, l, typ.Show(s), v)
+		}
 	}
 }

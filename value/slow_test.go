@@ -512,39 +512,6 @@ func holdMoved(t *testing.T, m *maker, x typ.Type, g graph.Graph) {
 	}
 }
 
-// changed are all values that come of one, if one thing of it is changed.
-func changed(v value.Value) []value.Value {
-	l := []value.Value{carve.Leaf(0), carve.Str("x"), carve.Scalar("int", "1"), carve.Seq(), carve.Map("")}
-	with := func(change func(*value.Value)) {
-		x := v
-		x.Keys, x.Kids = slices.Clone(v.Keys), slices.Clone(v.Kids)
-		change(&x)
-		l = append(l, x)
-	}
-	if v.Kind != value.Leaf {
-		with(func(x *value.Value) { x.Tag = "!a" })
-	}
-	if v.Kind == value.Scalar {
-		with(func(x *value.Value) { x.Text = "y" })
-	}
-	for i, k := range v.Kids {
-		with(func(x *value.Value) { x.Kids[i] = v.Kids[len(v.Kids)-1-i] })
-		with(func(x *value.Value) {
-			x.Kids = slices.Delete(x.Kids, i, i+1)
-			if v.Kind == value.Map {
-				x.Keys = slices.Delete(x.Keys, i, i+1)
-			}
-		})
-		if v.Kind == value.Map {
-			with(func(x *value.Value) { x.Keys[i] += "\x00" })
-		}
-		for _, o := range changed(k) {
-			with(func(x *value.Value) { x.Kids[i] = o })
-		}
-	}
-	return l
-}
-
 // P16.2, P16.3: values of types, with one thing changed, and by other types; without leaves Parse tells the same of what is woven.
 func TestChanged(t *testing.T) {
 	m := made(17)
@@ -558,7 +525,7 @@ func TestChanged(t *testing.T) {
 			continue
 		}
 		other := m.right()
-		for _, c := range append(changed(v), v) {
+		for _, c := range append(carve.Changed(v), v) {
 			if got := holdValue(t, m.d, x, c, g); got {
 				are++
 			} else {
