@@ -1,4 +1,4 @@
-// Package gist tells plainly what lenses do, as layers 20 and 21 say it, for the layers' tests.
+// Package gist tells plainly what lenses do, as layers 20 to 22 say it, for the layers' tests.
 package gist
 
 import (
@@ -22,6 +22,13 @@ func Get(e check.Env, p check.Plan, v value.Value) (value.Value, bool) {
 func Create(e check.Env, p check.Plan, w value.Value) (value.Value, bool) {
 	r := reading{env: e}
 	v := r.create(p, w)
+	return v, !r.many
+}
+
+// Put is a plan's source behind a view of its View, of a source of its Source; false, if a Compose's Kid has one, or a view but the last, of more nodes than a graph may have.
+func Put(e check.Env, p check.Plan, w, s value.Value) (value.Value, bool) {
+	r := reading{env: e}
+	v := r.put(p, w, s)
 	return v, !r.many
 }
 

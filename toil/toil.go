@@ -11,17 +11,19 @@ import (
 	"stanhope/value"
 )
 
-// Task is a plan, and where the value stands that is to give way to what the plan makes of
-// it. Without a plan it asks that the value there has no more nodes than it may.
+// Task is a plan, where the value stands that is to give way to what the plan makes of it,
+// and into what that is put; nil, if it is put into nothing. Without a plan it asks that the
+// value there has no more nodes than it may.
 type Task struct {
 	Plan *check.Plan
 	At   *value.Value
+	Into *value.Value
 }
 
-// Do is what a plan makes of a value. step does of a task what can be done at once, and
-// answers the tasks that are left of it, in order; false, if the value is none for the plan.
-func Do(p check.Plan, v value.Value, step func(Task) ([]Task, bool)) (value.Value, api.Errno) {
-	todo := []Task{{&p, &v}}
+// Do does a task. step does of one what can be done at once, and answers the tasks that are
+// left of it, in order; or what is wrong.
+func Do(t Task, step func(Task) ([]Task, api.Errno)) (value.Value, api.Errno) {
+	todo := []Task{t}
 	for len(todo) > 0 {
 		last := len(todo) - 1
 		next := todo[last]
@@ -32,14 +34,23 @@ func Do(p check.Plan, v value.Value, step func(Task) ([]Task, bool)) (value.Valu
 			}
 			continue
 		}
-		left, ok := step(next)
-		if !ok {
-			return value.Value{}, api.ErrType
+		left, n := step(next)
+		if n != api.OK {
+			return value.Value{}, n
 		}
 		todo = append(todo, left...)
 		slices.Reverse(todo[last:])
 	}
-	return v, api.OK
+	return *t.At, api.OK
+}
+
+// Give lays what was made in its place, and leaves nothing; ErrType, if nothing was made.
+func (t Task) Give(v value.Value, ok bool) ([]Task, api.Errno) {
+	if !ok {
+		return nil, api.ErrType
+	}
+	*t.At = v
+	return nil, api.OK
 }
 
 // Kid is the plan of the Kid with a number; nil, if there is none.
@@ -50,28 +61,43 @@ func (t Task) Kid(i int) *check.Plan {
 	return &t.Plan.Kids[i]
 }
 
-// Pass leaves it to another plan; false, if there is none.
-func (t Task) Pass(p *check.Plan) ([]Task, bool) { return []Task{{p, t.At}}, p != nil }
+// Pass leaves it to another plan; ErrType, if there is none.
+func (t Task) Pass(p *check.Plan) ([]Task, api.Errno) {
+	if p == nil {
+		return nil, api.ErrType
+	}
+	return []Task{{p, t.At, t.Into}}, api.OK
+}
 
-// Link leaves it to a Compose's Kid with a number, and asks how many nodes there are then.
-func (t Task) Link(i int) []Task { return []Task{{t.Kid(i), t.At}, {nil, t.At}} }
+// Link leaves it to one of a Compose's plans, and asks how many nodes there are then.
+func (t Task) Link(p *check.Plan, into *value.Value) []Task {
+	return []Task{{p, t.At, into}, {nil, t.At, nil}}
+}
 
-// Spread leaves it to other plans as views and new sources alike do: a Use to the one of
-// its name; a Map, an Items, a Keyed, an On to those of its Kids, part by part. It is
-// false, if there is no such name, or there are no parts.
-func (t Task) Spread(e check.Env) ([]Task, bool) {
+// Alone tells that parts are put into nothing.
+func Alone(int, string) *value.Value { return nil }
+
+// Spread leaves it to other plans as views, new sources and what is put into others alike
+// do: a Use to the one of its name; a Map, an Items, a Keyed, an On to those of its Kids,
+// part by part. into tells, by a part's number and its key (in a sequence, that has none,
+// an empty one), into what it is put. It is ErrType, if there is no such name, or there are
+// no parts.
+func (t Task) Spread(e check.Env, into func(i int, key string) *value.Value) ([]Task, api.Errno) {
 	part := func(string) *check.Plan { return t.Kid(0) }
 	switch t.Plan.Lens.Kind {
 	case lens.Use:
 		p, ok := e.Find(t.Plan.Lens.Name)
-		return []Task{{&p, t.At}}, ok
+		if !ok {
+			return nil, api.ErrType
+		}
+		return t.Pass(&p)
 	case lens.On:
 		part = t.behind
 		fallthrough
 	case lens.Map, lens.Items, lens.Keyed:
-		return t.parts(part)
+		return t.parts(part, into)
 	}
-	return nil, false
+	return nil, api.ErrType
 }
 
 // behind is the plan of the Kid by a key; nil, if there is none.
@@ -83,10 +109,9 @@ func (t Task) behind(key string) *check.Plan {
 	return t.Kid(i)
 }
 
-// parts leaves a collection to plans, part by part; false, if there is no collection. plan
-// tells the one for what stands behind a key (in a sequence, that has none, behind an empty
-// one); nil, if that stays as it is.
-func (t Task) parts(plan func(key string) *check.Plan) ([]Task, bool) {
+// parts leaves a collection to plans, part by part; ErrType, if there is no collection. plan
+// tells the one for what stands behind a key; nil, if that stays as it is.
+func (t Task) parts(plan func(key string) *check.Plan, into func(i int, key string) *value.Value) ([]Task, api.Errno) {
 	// What was handed in isn't written into: what gives way stands in a list of its own.
 	v := value.Value{Kind: t.At.Kind, Tag: t.At.Tag, Kids: slices.Clone(t.At.Kids)}
 	switch v.Kind {
@@ -94,7 +119,7 @@ func (t Task) parts(plan func(key string) *check.Plan) ([]Task, bool) {
 		v.Keys = t.At.Keys
 	case value.Seq:
 	default:
-		return nil, false
+		return nil, api.ErrType
 	}
 	*t.At = v
 	var left []Task
@@ -104,8 +129,8 @@ func (t Task) parts(plan func(key string) *check.Plan) ([]Task, bool) {
 			key = v.Keys[i]
 		}
 		if p := plan(key); p != nil {
-			left = append(left, Task{p, &v.Kids[i]})
+			left = append(left, Task{p, &v.Kids[i], into(i, key)})
 		}
 	}
-	return left, true
+	return left, api.OK
 }

@@ -157,7 +157,7 @@ func (w Way) ends(t T, e check.Env, p check.Plan, v value.Value, met map[api.Err
 	for _, call := range [...]Call{w.Run, w.Bare} {
 		x, n := call(e, p, v)
 		if n != api.OK && (!carve.Equal(x, value.Value{}) || n != api.ErrType && n != api.ErrNodes) {
-			t.Fatalf("%s of %s: %v, %s", brief(p), short(v), n, short(x))
+			t.Fatalf("%s of %s: %v, %s", Brief(p), Short(v), n, Short(x))
 		}
 		met[n]++
 	}

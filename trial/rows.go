@@ -27,7 +27,7 @@ func (l Rows) Hold(t T, w Way) {
 		q := grind.Made(noisy.Defs, grind.Noisy(p.Lens), spell.Noisy(p.Source))
 		got := w.Made(t, noisy, q, carve.Noisy(v))
 		// What a lens makes itself has nothing where nothing plays a part.
-		if !value.Same(got, want) || !slices.Contains(w.Passes, p.Lens.Kind) && !bare(got) {
+		if !value.Same(got, want) || !slices.Contains(w.Passes, p.Lens.Kind) && !Clean(got) {
 			t.Errorf("%+v, with what plays no part: %+v", r, got)
 		}
 	}

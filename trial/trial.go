@@ -56,13 +56,13 @@ func (w Way) Made(t T, e check.Env, p check.Plan, v value.Value) value.Value {
 	x, n := w.Run(e, p, v)
 	y, m := w.Bare(e, p, v)
 	if n != api.OK || m != api.OK || !carve.Equal(x, y) {
-		t.Fatalf("%s of %s: Run tells %v, %s, Bare %v, %s", brief(p), short(v), n, short(x), m, short(y))
+		t.Fatalf("%s of %s: Run tells %v, %s, Bare %v, %s", Brief(p), Short(v), n, Short(x), m, Short(y))
 	}
 	if !x.May() || !value.Of(e.Defs.Types, w.to(p), x) {
-		t.Fatalf("%s of %s: %s is no %s", brief(p), short(v), short(x), typ.Show(w.to(p)))
+		t.Fatalf("%s of %s: %s is no %s", Brief(p), Short(v), Short(x), typ.Show(w.to(p)))
 	}
 	if s := w.Law(e, p, v, x); s != "" {
-		t.Fatalf("%s of %s: %s: %s", brief(p), short(v), short(x), s)
+		t.Fatalf("%s of %s: %s: %s", Brief(p), Short(v), Short(x), s)
 	}
 	return x
 }
@@ -71,7 +71,7 @@ func (w Way) Made(t T, e check.Env, p check.Plan, v value.Value) value.Value {
 func (w Way) Wrong(t T, e check.Env, p check.Plan, v value.Value, want api.Errno) {
 	t.Helper()
 	if x, n := w.Run(e, p, v); n != want || !carve.Equal(x, value.Value{}) {
-		t.Errorf("%s of %s: %v, %s, not %v", brief(p), short(v), n, short(x), want)
+		t.Errorf("%s of %s: %v, %s, not %v", Brief(p), Short(v), n, Short(x), want)
 	}
 }
 
@@ -82,7 +82,7 @@ func (w Way) Pair(t T, e check.Env, p check.Plan, source, view value.Value) {
 		source, view = view, source
 	}
 	if x := w.Made(t, e, p, source); !value.Same(x, view) {
-		t.Errorf("%s of %s: %s, not %s", brief(p), short(source), short(x), short(view))
+		t.Errorf("%s of %s: %s, not %s", Brief(p), Short(source), Short(x), Short(view))
 	}
 }
 
@@ -96,7 +96,7 @@ func (w Way) Hold(t T, e check.Env, p check.Plan, v value.Value) {
 	}
 	x := w.Made(t, e, p, v)
 	if !carve.Equal(x, want) {
-		t.Fatalf("%s of %s: %s, not %s", brief(p), short(v), short(x), short(want))
+		t.Fatalf("%s of %s: %s, not %s", Brief(p), Short(v), Short(x), Short(want))
 	}
 	if p.Lens.Kind != lens.Compose {
 		return
@@ -110,7 +110,7 @@ func (w Way) Hold(t T, e check.Env, p check.Plan, v value.Value) {
 		v = w.Made(t, e, k, v)
 	}
 	if !carve.Equal(x, v) {
-		t.Fatalf("%s: %s, not %s", brief(p), short(x), short(v))
+		t.Fatalf("%s: %s, not %s", Brief(p), Short(x), Short(v))
 	}
 }
 
@@ -129,8 +129,8 @@ func More(v, other value.Value) bool {
 	return false
 }
 
-// brief is a plan's text: the words of its lenses, and the types.
-func brief(p check.Plan) string {
+// Brief is a plan's text: the words of its lenses, and the types.
+func Brief(p check.Plan) string {
 	return cut(words(p)) + " by " + cut(typ.Show(p.Source)) + " to " + cut(typ.Show(p.View))
 }
 
@@ -143,8 +143,8 @@ func words(p check.Plan) string {
 	return s
 }
 
-// short is a value's text; of many nodes the beginning of it.
-func short(v value.Value) string { return cut(text(v)) }
+// Short is a value's text; of many nodes the beginning of it.
+func Short(v value.Value) string { return cut(text(v)) }
 
 // cut is a text, or the beginning of it.
 func cut(s string) string {
@@ -173,8 +173,8 @@ func text(v value.Value) string {
 	return s + ")"
 }
 
-// bare says whether nothing stands in what plays no part of a value, what is below it left aside.
-func bare(v value.Value) bool {
+// Clean says whether nothing stands in what plays no part of a value, what is below it left aside.
+func Clean(v value.Value) bool {
 	switch v.Kind {
 	case value.Scalar:
 		return len(v.Keys) == 0 && len(v.Kids) == 0 && v.Node == 0
