@@ -5,7 +5,9 @@ import (
 	"testing"
 
 	"stanhope/carve"
+	"stanhope/graph"
 	"stanhope/grind"
+	"stanhope/iso"
 	"stanhope/lens"
 	"stanhope/load"
 	"stanhope/scribe"
@@ -109,5 +111,38 @@ func TestSoup(t *testing.T) {
 	}
 	if wrong > 0 || same > 300 || odd > 200 || odd == 0 {
 		t.Error(wrong, same, odd)
+	}
+}
+
+// What is written as it stands, and loaded as the same graph, whatever is picked.
+func TestGraph(t *testing.T) {
+	for want, g := range map[string]graph.Graph{
+		"x":                          sketch.Of(0, sketch.Str("x")),
+		"~":                          sketch.Of(0, sketch.Scalar("null", "")),
+		`!a "1"`:                     sketch.Of(0, sketch.Scalar("!a", "1")),
+		"!a []":                      sketch.Of(0, sketch.Tagged("!a", sketch.Seq())),
+		"{}":                         sketch.Of(0, sketch.Map("")),
+		"[x, x]":                     sketch.Of(1, sketch.Str("x"), sketch.Seq(0, 2), sketch.Str("x")),
+		"{b: &n0 x, a: *n0}":         sketch.Of(1, sketch.Str("x"), sketch.Map("b a", 0, 0)),
+		"&n0 [*n0, &n1 !a {k: *n1}]": sketch.Of(0, sketch.Seq(0, 1), sketch.Tagged("!a", sketch.Map("k", 1))),
+	} {
+		if got := (scribe.Pen{}).Graph(g); got != want {
+			t.Errorf("%s, not %s", got, want)
+		}
+	}
+	pick := sketch.Pick(rand.New(rand.NewSource(3)).Intn)
+	pen, met := scribe.Pen{Pick: pick}, map[string]int{}
+	for range 300 {
+		g := pick.Graph(1 + pick(8))
+		for range 5 {
+			s := pen.Graph(g)
+			met[s]++
+			if d, f := load.One(s + "\n"); f.Bad() || !iso.Same(d.Graph, g) {
+				t.Fatalf("%s: %v at %d: %v, not %v", s, f, f.At, d.Graph, g)
+			}
+		}
+	}
+	if len(met) < 400 {
+		t.Error(len(met))
 	}
 }
