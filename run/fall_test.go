@@ -8,66 +8,18 @@ import (
 	"stanhope/api"
 	"stanhope/brew"
 	"stanhope/check"
-	"stanhope/emit"
-	"stanhope/graph"
 	"stanhope/lens"
 	"stanhope/load"
 	"stanhope/program"
 	"stanhope/run"
-	"stanhope/scribe"
 	"stanhope/sketch"
-	"stanhope/spell"
+	"stanhope/strew"
 	"stanhope/typ"
 	"stanhope/value"
 )
 
-// falls makes lenses, sources and views as they fall, as texts that are written in whatever way.
-type falls struct {
-	*brew.Maker
-	scribe.Pen
-}
-
 // falling makes what falls by a number.
-func falling(seed int64) falls {
-	m := &brew.Maker{Pick: rand.New(rand.NewSource(seed)).Intn, Often: 200}
-	m.Types = spell.Defs(brew.Names)
-	return falls{m, scribe.Pen{Pick: m.Pick}}
-}
-
-// pick picks a number below another.
-func (m falls) pick(n int) int { return m.Maker.Pick(n) }
-
-// plan makes a plan, more often than not one whose sources may have leaves.
-func (m falls) plan() check.Plan {
-	for range m.pick(20) {
-		p := m.Plan()
-		if s := typ.Show(p.Source); strings.Contains(s, "any") || strings.Contains(s, "dag") || strings.Contains(s, "$x") {
-			return p
-		}
-	}
-	return m.Plan()
-}
-
-// text is a document of a type, whose leaves share what they reach; it is empty, if none came.
-func (m falls) text(x typ.Type, deep int) string {
-	v := m.Value(x, deep)
-	g, f := value.Weave(v, sketch.Pick(m.pick).Graph(5+m.pick(8)))
-	if f.Bad() {
-		return ""
-	}
-	if _, f := value.Parse(m.Types, x, g); f.Bad() {
-		return ""
-	}
-	return m.writing(g)
-}
-
-// writing writes a graph in one of several ways.
-func (m falls) writing(g graph.Graph) string {
-	if s, f := emit.Graph(g); !f.Bad() && m.pick(3) == 0 {
-		return "# x\n---\n\n" + s
-	}
-	return strings.Repeat(" ", m.pick(3)) + m.Graph(g) + []string{"", "\n", "\n# y"}[m.pick(3)]
-}
+func falling(seed int64) strew.Maker { return strew.New(rand.New(rand.NewSource(seed)).Intn) }
 
 // answer is what a call answers.
 type answer struct {
@@ -123,13 +75,13 @@ func TestFall(t *testing.T) {
 	for range 40 {
 		m.Define(5)
 		for range 50 {
-			p := m.plan()
+			p := m.Leafy()
 			l := m.Program(m.Defs, p.Source, p.Lens)
 			if from, to, f := run.Check(l); from != typ.Show(p.Source) || to != typ.Show(p.View) || f != (run.Fault{}) {
 				t.Fatalf("%s: %s, %s, %v", l, from, to, f)
 			}
 			brew.Count(p.Lens, kinds)
-			w, s := m.text(p.View, 4), m.text(p.Source, 4)
+			w, s := m.Document(p.View, 4), m.Document(p.Source, 4)
 			if w == "" || s == "" {
 				continue
 			}
@@ -166,26 +118,26 @@ var shares = [][2]string{
 // P26.1, P26.2: own views of which some things are changed, put back, by lenses of which much is shared.
 func TestChanged(t *testing.T) {
 	m := falling(262)
-	pick := sketch.Pick(m.pick)
+	pick := sketch.Pick(m.Below)
 	kept, parted := 0, 0
 	for range 150 {
 		for _, r := range shares {
 			l := script(r[0], r[1])
 			p, _ := program.Ready(l)
-			s := m.text(p.Plan.Source, 4)
+			s := m.Document(p.Plan.Source, 4)
 			if s == "" {
 				continue
 			}
 			own := of(t, l+s)(run.Get(l, s))
 			d, _ := load.One(own)
 			g := d.Graph
-			for range m.pick(4) {
+			for range m.Below(4) {
 				g = pick.Changed(g)
 			}
 			if _, f := value.Parse(typ.Defs{}, p.Plan.View, g); f.Bad() {
 				continue
 			}
-			w := m.writing(g)
+			w := m.Written(g)
 			_, put, made := trial{l, w, s}.laws(t)
 			switch old := emitted(t, s); {
 			case put.text == old:
@@ -200,17 +152,6 @@ func TestChanged(t *testing.T) {
 	}
 }
 
-// spoiled is a text with some bytes changed.
-func (m falls) spoiled(s string) string {
-	const bytes = "\n\n  -::,[]{}#&*!|>'\"\\%~01abckx?\xff\xc3\t"
-	for range m.pick(3) {
-		i := m.pick(len(s) + 1)
-		j := min(i+m.pick(4), len(s))
-		s = s[:i] + []string{"", bytes[m.pick(len(bytes)):][:1], s[i:j] + s[i:j]}[m.pick(3)] + s[j:]
-	}
-	return s
-}
-
 // P26.1, W6: lenses, sources and views that are spoiled, or meant for others: a result or one error, at a place of one of them.
 func TestSpoiled(t *testing.T) {
 	m, met := falling(263), make(map[string]int)
@@ -218,19 +159,19 @@ func TestSpoiled(t *testing.T) {
 	for range 40 {
 		m.Define(4)
 		for range 30 {
-			p := m.plan()
-			x := trial{m.Program(m.Defs, p.Source, p.Lens), m.text(p.View, 4), m.text(p.Source, 4)}
+			var x trial
+			x.lens, x.view, x.source = m.Texts()
 			for range 4 {
 				y := x
-				switch m.pick(5) {
+				switch m.Below(5) {
 				case 0:
-					y.lens = m.spoiled(x.lens)
+					y.lens = m.Garbled(x.lens)
 				case 1:
-					y.view = m.spoiled(x.view)
+					y.view = m.Garbled(x.view)
 				case 2:
-					y.source = m.spoiled(x.source)
+					y.source = m.Garbled(x.source)
 				case 3:
-					y = trial{m.spoiled(x.lens), m.spoiled(x.view), m.spoiled(x.source)}
+					y = trial{m.Garbled(x.lens), m.Garbled(x.view), m.Garbled(x.source)}
 				case 4:
 					y.view, y.source = last.view, last.source
 				}
@@ -257,14 +198,14 @@ func TestBytes(t *testing.T) {
 	parts := strings.Split("\n|\n|  |- |- |: |a: |b: |k: |x|1|~|[|]|{|}|, |&a |*a|!t |'x'|\"\\n\"|#|---\n|source: |lens: |str|id|copy|any|list: |record: |{plunge: k}|types: |lenses: ", "|")
 	text := func() string {
 		s := ""
-		for range m.pick(12) {
-			s += parts[m.pick(len(parts))]
+		for range m.Below(12) {
+			s += parts[m.Below(len(parts))]
 		}
 		return s
 	}
 	for range 20000 {
 		x := trial{script("any", "copy"), text(), text()}
-		if m.pick(2) == 0 {
+		if m.Below(2) == 0 {
 			x.lens = text()
 		}
 		for _, a := range []answer{call(run.Get(x.lens, x.source)), call(run.Put(x.lens, x.view, x.source)), call(run.Create(x.lens, x.view))} {

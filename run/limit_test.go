@@ -7,6 +7,7 @@ import (
 
 	"stanhope/api"
 	"stanhope/run"
+	"stanhope/strew"
 )
 
 // list is a sequence of so many of an item.
@@ -169,8 +170,8 @@ func TestLimitsFirst(t *testing.T) {
 }
 
 // near is a number near one at which a limit is passed by one lens or another, of items that are so many nodes each.
-func near(m falls, each, others int) int {
-	return (4096-others)/(each+m.pick(2)) - m.pick(6)
+func near(m strew.Maker, each, others int) int {
+	return (4096-others)/(each+m.Below(2)) - m.Below(6)
 }
 
 // P26.3: lenses, as they fall, of about as many nodes as there may be; what isn't beyond a limit is put and got as it should be.
@@ -192,11 +193,11 @@ func TestLimitsFall(t *testing.T) {
 		{"{list: {record: {k: any, h?: str}}}", items("{k: x, h: y}"), 3, 1},
 	}
 	for range 150 {
-		x := sources[m.pick(len(sources))]
-		l := script(x.source, links[m.pick(len(links))])
-		for range m.pick(6) {
+		x := sources[m.Below(len(sources))]
+		l := script(x.source, links[m.Below(len(links))])
+		for range m.Below(6) {
 			more := strings.Replace(l, "lens: ", "lens: {compose: [", 1)
-			more = strings.TrimSuffix(more, "\n") + ", " + links[m.pick(len(links))] + "]}\n"
+			more = strings.TrimSuffix(more, "\n") + ", " + links[m.Below(len(links))] + "]}\n"
 			if _, _, f := run.Check(more); !f.Bad() {
 				l = more
 			}
